@@ -1,0 +1,14 @@
+"""Which values count as integers."""
+
+LIMIT = 10 ** 60
+
+
+def is_integer(value):
+    """Whether the value is an integer of at most sixty digits."""
+    # For Python, True and False are integers, too.
+    return isinstance(value, int) and not isinstance(value, bool) and -LIMIT < value < LIMIT
+
+
+def are_integers(value):
+    """Whether the value is a tuple of such integers."""
+    return isinstance(value, tuple) and all([is_integer(part) for part in value])

@@ -1,0 +1,1 @@
+"""Claims about the arrays, positions and values of a frame."""

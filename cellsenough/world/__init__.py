@@ -1,0 +1,1 @@
+"""Situations, in which claims are true or false."""

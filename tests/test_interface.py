@@ -1,0 +1,64 @@
+"""Names, arguments and places of all that the interface lists for what has landed."""
+
+import importlib
+import inspect
+import unittest
+
+FUNCTIONS = {
+    "cellsenough.base.frames": {"is_name": "(value)"},
+    "cellsenough.logic.claims": {
+        "is_claim": "(frame, value)", "is_guard": "(frame, own, value)", "is_body": "(frame, own, value)",
+        "names_of": "(frame, claim)", "claim_depth": "(frame, claim)", "has_all": "(frame, claim)",
+        "plain_claim": "(frame, claim, *, is_true=True)", "replaced": "(frame, claim, terms)",
+        "used_at": "(frame, claim, terms)", "inside_claim": "(frame, array, term)",
+        "all_between": "(frame, low, high, op, one, other)", "in_order": "(frame, array, low, high)",
+        "renamed_claim": "(frame, claim, names)",
+    },
+}
+CLASSES = {
+    ("cellsenough.base.frames", "Frame"): {
+        "__init__": "(self, arrays, positions, values)", "length_of": "(self, array)", "kind_of": "(self, name)",
+        "is_fresh": "(self, value)", "is_position_term": "(self, value, *, own=())",
+        "is_value_term": "(self, value, *, own=())", "shifted": "(self, term, number)",
+        "with_names": "(self, *, arrays=(), positions=(), values=())", "renamed": "(self, names)",
+        "__contains__": "(self, value)", "__len__": "(self)", "__eq__": "(self, other)", "__str__": "(self)",
+    },
+    ("cellsenough.world.situations", "Situation"): {
+        "__init__": "(self, frame, rows, positions, values)", "cell": "(self, array, position)",
+        "position_at": "(self, term)", "value_at": "(self, term)", "holds": "(self, claim)", "failure": "(self, claim)",
+        "with_cell": "(self, array, position, number)", "with_number": "(self, name, number)",
+        "for_frame": "(self, frame)", "__len__": "(self)", "__eq__": "(self, other)", "__str__": "(self)",
+    },
+}
+PROPERTIES = {
+    ("cellsenough.base.frames", "Frame"): ("arrays", "positions", "amounts", "lengths"),
+    ("cellsenough.world.situations", "Situation"): ("frame", "rows", "positions", "amounts", "lengths"),
+}
+
+
+class Interface(unittest.TestCase):
+    def test_functions(self):
+        for module, functions in FUNCTIONS.items():
+            for name, parameters in functions.items():
+                with self.subTest(module, name=name):
+                    function = getattr(importlib.import_module(module), name)
+                    self.assertEqual(str(inspect.signature(function)), parameters)
+                    self.assertEqual(function.__module__, module)
+
+    def test_methods(self):
+        for (module, name), methods in CLASSES.items():
+            made = getattr(importlib.import_module(module), name)
+            self.assertEqual(made.__module__, module)
+            for method, parameters in methods.items():
+                with self.subTest(name, method=method):
+                    self.assertEqual(str(inspect.signature(vars(made)[method])), parameters)
+
+    def test_properties(self):
+        for (module, name), properties in PROPERTIES.items():
+            for told in properties:
+                with self.subTest(name, told=told):
+                    self.assertIsInstance(vars(getattr(importlib.import_module(module), name))[told], property)
+
+
+if __name__ == "__main__":
+    unittest.main()

@@ -1,0 +1,125 @@
+"""The rules of the language that a look at the files of the package can judge."""
+
+import ast
+import os
+import unittest
+
+ROOT = os.path.dirname(os.path.dirname(os.path.abspath(__file__)))
+PACKAGE = os.path.join(ROOT, "cellsenough")
+BUILTINS = (
+    "len range enumerate zip min max sum abs sorted reversed int str bool list tuple dict set frozenset isinstance ord "
+    "repr any all divmod property Exception ValueError TypeError KeyError IndexError LookupError ZeroDivisionError "
+    "ArithmeticError OverflowError RuntimeError NotImplementedError NotImplemented").split()
+METHODS = (
+    "append clear copy count endswith extend find get index insert isalnum isalpha isdigit islower isspace isupper items "
+    "join keys ljust lower lstrip partition pop remove replace reverse rfind rjust rpartition rsplit rstrip setdefault "
+    "split splitlines startswith strip update upper values zfill bit_length add discard sort").split()
+DOUBLE = "__init__ __eq__ __repr__ __str__ __len__ __contains__ __iter__ __bool__ __call__ __getitem__ __add__".split()
+NEVER = "mro elements open input law register id help vars dir compile globals locals exit quit copyright".split()
+
+
+def files():
+    for folder, _, names in os.walk(PACKAGE):
+        if os.path.basename(folder) != "__pycache__":
+            for name in sorted(names):
+                yield os.path.join(folder, name)
+
+
+def text_of(path):
+    with open(path, encoding="utf-8", newline="") as file:
+        return file.read()
+
+
+def bound_in(tree):
+    """All names that a file binds anywhere, builtins excluded."""
+    names = {node.id for node in ast.walk(tree) if isinstance(node, ast.Name) and isinstance(node.ctx, ast.Store)}
+    names |= {node.arg for node in ast.walk(tree) if isinstance(node, ast.arg)}
+    names |= {node.name for node in ast.walk(tree) if isinstance(node, (ast.FunctionDef, ast.ClassDef))}
+    for node in ast.walk(tree):
+        if isinstance(node, ast.ImportFrom):
+            names |= {alias.name for alias in node.names}
+    return names
+
+
+class Language(unittest.TestCase):
+    def each(self):
+        return [(path, ast.parse(text_of(path))) for path in files()]
+
+    def test_files(self):
+        for path in files():
+            self.assertTrue(path.endswith(".py"), path)
+            self.assertTrue(os.path.isfile(os.path.join(os.path.dirname(path), "__init__.py")), path)
+        self.assertLessEqual(len(list(files())), 100)
+
+    def test_sizes_and_characters(self):
+        for path, tree in self.each():
+            text = text_of(path)
+            self.assertTrue(all(letter == "\n" or " " <= letter <= "~" for letter in text))
+            lines = text.split("\n")
+            self.assertLessEqual(len(lines), 399)
+            self.assertLessEqual(max(map(len, lines)), 120)
+            for node in ast.walk(tree):
+                if isinstance(node, ast.FunctionDef):
+                    self.assertLessEqual(node.end_lineno - node.lineno + 1, 40, node.name)
+
+    def test_imports_name_the_defining_file(self):
+        for path, tree in self.each():
+            for node in ast.walk(tree):
+                self.assertNotIsInstance(node, ast.Import)
+                if isinstance(node, ast.ImportFrom):
+                    self.assertEqual(node.level, 0)
+                    self.assertEqual(node.module.split(".")[0], "cellsenough")
+                    target = ast.parse(text_of(os.path.join(ROOT, *node.module.split(".")) + ".py"))
+                    made = {part.name for part in target.body if isinstance(part, (ast.FunctionDef, ast.ClassDef))}
+                    made |= {part.targets[0].id for part in target.body if isinstance(part, ast.Assign)}
+                    for alias in node.names:
+                        self.assertIsNone(alias.asname)
+                        self.assertIn(alias.name, made)
+
+    def test_module_level(self):
+        allowed = (ast.FunctionDef, ast.ClassDef, ast.Assign, ast.ImportFrom)
+        for path, tree in self.each():
+            self.assertIsInstance(tree.body[0].value.value, str)
+            for node in tree.body[1:]:
+                self.assertIsInstance(node, allowed)
+
+    def test_names(self):
+        for path, tree in self.each():
+            bound = bound_in(tree)
+            self.assertEqual([name for name in bound if name in BUILTINS or name in NEVER], [])
+            for node in ast.walk(tree):
+                if isinstance(node, ast.Name) and isinstance(node.ctx, ast.Load):
+                    self.assertTrue(node.id in bound or node.id in BUILTINS, node.id)
+                if isinstance(node, ast.FunctionDef) and node.name.startswith("__"):
+                    self.assertIn(node.name, DOUBLE)
+                if isinstance(node, ast.FunctionDef):
+                    self.assertTrue(all(part.id == "property" for part in node.decorator_list), node.name)
+
+    def test_methods(self):
+        own = set()
+        for path in files():
+            for node in ast.walk(ast.parse(text_of(path))):
+                if isinstance(node, ast.FunctionDef):
+                    own.add(node.name)
+        for path, tree in self.each():
+            for node in ast.walk(tree):
+                if isinstance(node, ast.Call) and isinstance(node.func, ast.Attribute):
+                    self.assertTrue(node.func.attr in own or node.func.attr in METHODS, node.func.attr)
+
+    def test_statements_and_expressions(self):
+        barred = (ast.GeneratorExp, ast.AsyncFunctionDef, ast.Await, ast.Global, ast.Try, ast.Div)
+        for path, tree in self.each():
+            for node in ast.walk(tree):
+                self.assertNotIsInstance(node, barred)
+                if isinstance(node, ast.Constant):
+                    self.assertNotIsInstance(node.value, (float, complex))
+                if isinstance(node, ast.Compare) and any(isinstance(op, (ast.Is, ast.IsNot)) for op in node.ops):
+                    self.assertTrue(all(isinstance(part, ast.Constant) for part in node.comparators))
+                if isinstance(node, ast.Constant) and isinstance(node.value, str):
+                    self.assertNotIn("%", node.value)
+                if isinstance(node, ast.For):
+                    self.assertNotIsInstance(node.iter, (ast.Set, ast.SetComp))
+
+
+if __name__ == "__main__":
+    unittest.main()

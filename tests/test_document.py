@@ -1,13 +1,22 @@
-"""All examples of the document for its first three headings."""
+"""All examples of the document for what has landed."""
 
 import unittest
 
 from cellsenough.base.frames import Frame, is_name
-from cellsenough.logic.claims import all_between, claim_depth, is_claim, names_of, plain_claim, replaced, used_at
+from cellsenough.logic.claims import (
+    all_between, claim_depth, is_claim, names_of, plain_claim, replaced, used_at)
+from cellsenough.solve.questions import Question
+from cellsenough.solve.rings import differences_of, is_ring, needless, ring, tightest
+from cellsenough.solve.trees import Closing
+from cellsenough.world.listing import count_situations, count_with, first_with, situations
 from cellsenough.world.situations import Situation
 
 FRAME = Frame((("a", "n"),), ("i", "j"), ("x",))
 UPTO = ("all", ("k",), ("and", (("pos", "<=", ("", 0), ("k", 0)), ("pos", "<=", ("k", 0), ("i", 0)))), ("val", "<=", ("a", "k", 0, 0), ("x", 0)))
+
+SHOWN = Situation(FRAME, {"a": (4, 0, 7)}, {"i": 1, "j": 2}, {"x": 5})
+NEXT = Question(FRAME, (UPTO, ("val", "<=", ("a", "i", 1, 0), ("x", 0))), replaced(FRAME, UPTO, {"i": ("i", 1)}))
+BROKEN = Question(FRAME, (UPTO,), replaced(FRAME, UPTO, {"i": ("i", 1)}))
 
 
 class Examples(unittest.TestCase):
@@ -41,6 +50,34 @@ class Examples(unittest.TestCase):
         SHOWN = Situation(FRAME, {"a": (4, 0, 7)}, {"i": 1, "j": 2}, {"x": 5})
         told = [SHOWN.holds(UPTO), SHOWN.with_number("i", 2).failure(UPTO), SHOWN.value_at(("a", "j", 1, 3)), SHOWN.lengths, str(SHOWN), SHOWN.holds(("all", ("k",), ("and", ()), ("val", "<", ("a", "k", 0, 0), ("", 0))))]
         self.assertEqual(told, [True, (2,), 3, {'n': 3}, 'a=4 0 7 | i=1 j=2 | x=5', False])
+
+    def test_listing(self):
+        told = [count_situations(FRAME, 2, 0, 1), count_with(FRAME, (UPTO,), 1, 0, 1), str(first_with(FRAME, (UPTO, ("val", "<", ("x", 0), ("a", "j", 0, 0))), 2, 0, 1))]
+        self.assertEqual(told, [224, 48, 'a=1 | i=-1 j=0 | x=0'])
+        told = [str(situation) for situation in situations(Frame((("b", "m"),), (), ()), 2, 0, 1)]
+        self.assertEqual(told, ['b=- | - | -', 'b=0 | - | -', 'b=1 | - | -', 'b=0 0 | - | -', 'b=0 1 | - | -', 'b=1 0 | - | -', 'b=1 1 | - | -'])
+
+    def test_differences(self):
+        CHAIN = (("i", "", 4), ("j", "i", -2), ("", "j", 1))
+        told = [tightest(CHAIN, "j", ""), tightest(CHAIN, "", "i"), ring(CHAIN), is_ring(CHAIN + (("i", "j", 1),), (3, 1)), needless(CHAIN)]
+        self.assertEqual(told, [2, -1, None, True, ()])
+        told = [differences_of(FRAME, ("pos", "<", ("i", 1), ("n", -1))), differences_of(FRAME, ("not", ("val", "<=", ("a", "i", 2, 1), ("x", 0))))]
+        self.assertEqual(told, [(('i', 'n', -3),), (('x', ('a', 'i', 2), 0),)])
+
+    def test_questions(self):
+        told = [NEXT.members, NEXT.fresh, NEXT.few, len(NEXT.facts), str(NEXT)]
+        self.assertEqual(told, [(('', -1), ('', 0), ('*1', 0), ('i', 0), ('i', 1), ('n', 0)), ('*1',), 12, 4, 'question of 2 given, 6 members, few 12'])
+        told = [BROKEN.is_broken_by(SHOWN), BROKEN.new_numbers(SHOWN), str(BROKEN.laid(SHOWN))]
+        self.assertEqual(told, [True, (2,), 'a=4 0 7 | i=1 j=2 | x=5'])
+
+    def test_trees(self):
+        closing = Closing(NEXT)
+        told = [closing.new(3, "q"), closing.part(4, 0), closing.part(4, 1), closing.apart(("q", 0), ("i", 1)), closing.use(1, ("q", 0))]
+        self.assertEqual(told, [0, 1, 2, 3, 4])
+        told = [closing.cases(9), closing.cases(10), closing.ring((11, 0), (6, 0))]
+        self.assertEqual(told, [7, 8, 10])
+        told = [closing.facts[11], closing.open_nodes, len(closing), str(closing)]
+        self.assertEqual(told, [('not', ('pos', '<=', ('q', 0), ('i', 0))), (5, 6, 9, 11), 8, 'closing with 8 nodes, 4 open'])
 
 
 if __name__ == "__main__":

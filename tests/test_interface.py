@@ -14,6 +14,23 @@ FUNCTIONS = {
         "all_between": "(frame, low, high, op, one, other)", "in_order": "(frame, array, low, high)",
         "renamed_claim": "(frame, claim, names)",
     },
+    "cellsenough.world.listing": {
+        "situations": "(frame, cells, low, high)", "count_situations": "(frame, cells, low, high)",
+        "listed": "(frame, cells, low, high, index)", "first_with": "(frame, claims, cells, low, high)",
+        "count_with": "(frame, claims, cells, low, high)",
+        "first_breaking": "(frame, given, wanted, cells, low, high)",
+    },
+    "cellsenough.solve.rings": {
+        "fitting": "(differences)", "is_fitting": "(differences, value)", "ring": "(differences)",
+        "is_ring": "(differences, value)", "tightest": "(differences, one, other)", "needless": "(differences)",
+        "differences_of": "(frame, claim)",
+    },
+    "cellsenough.solve.trees": {"is_tree": "(question, value)", "facts_at": "(question, tree, node)"},
+}
+CONSTANTS = {
+    "cellsenough.world.listing": {"MAX_LISTED": 200000},
+    "cellsenough.solve.rings": {"MAX_DIFFERENCES": 60},
+    "cellsenough.solve.questions": {"MAX_GIVEN": 40, "MAX_MEMBERS": 16},
 }
 CLASSES = {
     ("cellsenough.base.frames", "Frame"): {
@@ -29,10 +46,31 @@ CLASSES = {
         "with_cell": "(self, array, position, number)", "with_number": "(self, name, number)",
         "for_frame": "(self, frame)", "__len__": "(self)", "__eq__": "(self, other)", "__str__": "(self)",
     },
+    ("cellsenough.solve.rings", "System"): {
+        "__init__": "(self)", "add": "(self, one, other, number)", "bound": "(self, one, other)",
+        "undo": "(self, *, many=1)", "twin": "(self)", "__len__": "(self)", "__eq__": "(self, other)",
+        "__str__": "(self)",
+    },
+    ("cellsenough.solve.questions", "Question"): {
+        "__init__": "(self, frame, given, wanted)", "is_broken_by": "(self, value)", "new_numbers": "(self, situation)",
+        "laid": "(self, situation)", "small": "(self, situation)", "with_given": "(self, claim)",
+        "without": "(self, index)", "wanting": "(self, claim)", "renamed": "(self, names)", "__len__": "(self)",
+        "__eq__": "(self, other)", "__str__": "(self)",
+    },
+    ("cellsenough.solve.trees", "Closing"): {
+        "__init__": "(self, question)", "part": "(self, fact, index)", "cases": "(self, fact)",
+        "new": "(self, fact, *names)", "use": "(self, fact, *terms)", "apart": "(self, one, other)",
+        "same": "(self, array, fact)", "outside": "(self, array, fact)", "ring": "(self, *steps)",
+        "undo": "(self, *, many=1)", "twin": "(self)", "__bool__": "(self)", "__len__": "(self)",
+        "__eq__": "(self, other)", "__str__": "(self)",
+    },
 }
 PROPERTIES = {
     ("cellsenough.base.frames", "Frame"): ("arrays", "positions", "amounts", "lengths"),
     ("cellsenough.world.situations", "Situation"): ("frame", "rows", "positions", "amounts", "lengths"),
+    ("cellsenough.solve.rings", "System"): ("differences", "fitting"),
+    ("cellsenough.solve.questions", "Question"): ("frame", "claims", "goal", "members", "fresh", "few", "facts"),
+    ("cellsenough.solve.trees", "Closing"): ("facts", "open_nodes", "tree"),
 }
 
 
@@ -44,6 +82,11 @@ class Interface(unittest.TestCase):
                     function = getattr(importlib.import_module(module), name)
                     self.assertEqual(str(inspect.signature(function)), parameters)
                     self.assertEqual(function.__module__, module)
+
+    def test_constants(self):
+        for module, constants in CONSTANTS.items():
+            for name, number in constants.items():
+                self.assertEqual(getattr(importlib.import_module(module), name), number)
 
     def test_methods(self):
         for (module, name), methods in CLASSES.items():

@@ -1,6 +1,7 @@
 """The rules of the language that a look at the files of the package can judge."""
 
 import ast
+import builtins
 import os
 import unittest
 
@@ -8,7 +9,7 @@ ROOT = os.path.dirname(os.path.dirname(os.path.abspath(__file__)))
 PACKAGE = os.path.join(ROOT, "cellsenough")
 BUILTINS = (
     "len range enumerate zip min max sum abs sorted reversed int str bool list tuple dict set frozenset isinstance ord "
-    "repr any all divmod property Exception ValueError TypeError KeyError IndexError LookupError ZeroDivisionError "
+    "repr any all divmod iter property Exception ValueError TypeError KeyError IndexError LookupError ZeroDivisionError "
     "ArithmeticError OverflowError RuntimeError NotImplementedError NotImplemented").split()
 METHODS = (
     "append clear copy count endswith extend find get index insert isalnum isalpha isdigit islower isspace isupper items "
@@ -94,6 +95,29 @@ class Language(unittest.TestCase):
                     self.assertIn(node.name, DOUBLE)
                 if isinstance(node, ast.FunctionDef):
                     self.assertTrue(all(part.id == "property" for part in node.decorator_list), node.name)
+
+    def test_no_name_of_a_builtin_an_import_or_a_class_is_given_another_meaning(self):
+        for path, tree in self.each():
+            taken = {alias.name for node in tree.body if isinstance(node, ast.ImportFrom) for alias in node.names}
+            taken |= {node.name for node in tree.body if isinstance(node, ast.ClassDef)}
+            self.assertEqual(sorted(bound_in(tree) & set(dir(builtins))), [])
+            for node in ast.walk(tree):
+                if isinstance(node, ast.arg):
+                    self.assertNotIn(node.arg, taken, path)
+                if isinstance(node, ast.Name) and isinstance(node.ctx, ast.Store):
+                    self.assertNotIn(node.id, taken, path)
+
+    def test_names_of_properties_mean_nothing_else(self):
+        properties, methods, stored = set(), set(), set()
+        for path, tree in self.each():
+            for node in ast.walk(tree):
+                if isinstance(node, ast.ClassDef):
+                    for part in node.body:
+                        if isinstance(part, ast.FunctionDef):
+                            (properties if part.decorator_list else methods).add(part.name)
+                if isinstance(node, ast.Attribute) and isinstance(node.ctx, ast.Store):
+                    stored.add(node.attr)
+        self.assertEqual([sorted(properties & methods), sorted(properties & stored), sorted(methods & stored)], [[], [], []])
 
     def test_methods(self):
         own = set()

@@ -48,24 +48,24 @@ def with_terms(claim, terms, arrays):
 def _part_with(part, terms, arrays):
     """An atom or an all with other terms and arrays."""
     if part[0] == "all":
-        names = tuple([_place_with(name, 0, terms)[0] for name in part[1]])
+        names = tuple([place_with(name, 0, terms)[0] for name in part[1]])
         return ("all", names, with_terms(part[2], terms, arrays), with_terms(part[3], terms, arrays))
     word, op, one, other = part
-    return (word, op, _term_with(one, terms, arrays), _term_with(other, terms, arrays))
+    return (word, op, term_with(one, terms, arrays), term_with(other, terms, arrays))
 
 
-def _term_with(term, terms, arrays):
+def term_with(term, terms, arrays):
     """A term with other terms and arrays in it."""
     if len(term) == 4:
         array, name, shift, number = term
-        return (arrays.get(array, array), *_place_with(name, shift, terms), number)
+        return (arrays.get(array, array), *place_with(name, shift, terms), number)
     if term[0] not in terms:
         return term
     new = terms[term[0]]
     return (*new[:-1], new[-1] + term[1])
 
 
-def _place_with(name, number, terms):
+def place_with(name, number, terms):
     """The position term (name, number) with another term in the place of the name."""
     new, more = terms.get(name, (name, 0))
     return (new, more + number)

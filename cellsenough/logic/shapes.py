@@ -33,6 +33,19 @@ def check_claim(frame, claim):
         raise InvalidClaim("this is no claim for the frame")
 
 
+def are_claims(frame, value, most):
+    """Whether the value is a tuple of at most so many claims, or of any number of them for None."""
+    if not isinstance(value, tuple) or (most is not None and len(value) > most):
+        return False
+    return all([is_right(frame, "claim", (), part, MAX_DEPTH) for part in value])
+
+
+def check_claims(frame, claims, most):
+    """Refuses what is no such tuple."""
+    if not are_claims(frame, claims, most):
+        raise InvalidClaim("these are not claims for the frame, or too many")
+
+
 def is_body_term(frame, own, value):
     """Whether the value is a value term that reads no neighbour of an own name."""
     if not frame.is_value_term(value, own=own):

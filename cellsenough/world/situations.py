@@ -34,12 +34,21 @@ def _ascending(table):
 
 def _row_text(name, row):
     """The name of an array and its cells."""
-    return f"{name}=" + (" ".join([str(cell) for cell in row]) or "-")
+    cells = " ".join([str(cell) for cell in row]) or "-"
+    return f"{name}={cells}"
 
 
 def _numbers_text(names, table):
     """The names and their integers, with blanks between them, or a dash if there are none."""
     return " ".join([f"{name}={table[name]}" for name in names]) or "-"
+
+
+def made_situation(frame, rows, positions, values):
+    """The situation with these rows and integers, which are right ones, but can have more digits than passed ones."""
+    blank = Situation(frame, {array: () for array, _ in frame.arrays}, {name: 0 for name in frame.positions},
+                      {name: 0 for name in frame.amounts})
+    blank._take(rows, positions, values)
+    return blank
 
 
 class Situation:
@@ -52,10 +61,14 @@ class Situation:
         if not _are_numbers(frame.positions, positions) or not _are_numbers(frame.amounts, values):
             raise InvalidSituation("these are no integers for all positions and values")
         self._frame = frame
+        self._take(rows, positions, values)
+
+    def _take(self, rows, positions, values):
+        """Takes right rows, and integers of any length, for all names."""
         self._rows = _ascending(rows)
         self._positions = _ascending(positions)
         self._amounts = _ascending(values)
-        self._lengths = _ascending({length: len(rows[array]) for array, length in frame.arrays})
+        self._lengths = _ascending({length: len(rows[array]) for array, length in self._frame.arrays})
         self._numbers = {"": 0, **self._lengths, **self._positions, **self._amounts}
 
     @property
@@ -102,40 +115,55 @@ class Situation:
             raise InvalidTerm("this is no value term")
         return number_at(self._rows, self._numbers, term)
 
+    def knows(self, claim):
+        """Whether the claim, which is a right one, is true."""
+        return is_true(self._rows, self._numbers, claim)
+
+    def first_failing(self, claim):
+        """The same as `failure` for an all, which is a right one."""
+        return first_failure(self._rows, self._numbers, claim)
+
     def holds(self, claim):
         """Whether the claim is true."""
         check_claim(self._frame, claim)
-        return is_true(self._rows, self._numbers, claim)
+        return self.knows(claim)
 
     def failure(self, claim):
         """The first integers for the own names of an all for which it is false, or None."""
         check_claim(self._frame, claim)
         if claim[0] != "all":
             raise InvalidOperation("this is no all")
-        return first_failure(self._rows, self._numbers, claim)
+        return self.first_failing(claim)
 
     def with_cell(self, array, position, number):
         """The situation with another number in a cell."""
         self._frame.length_of(array)
-        row = self._rows[array]
-        if not is_integer(position) or not 0 <= position < len(row):
+        if not is_integer(position) or not 0 <= position < len(self._rows[array]):
             raise InvalidNumber(position)
         if not is_integer(number):
             raise InvalidSituation("this is no integer")
-        rows = self.rows
-        rows[array] = row[:position] + (number,) + row[position + 1:]
-        return Situation(self._frame, rows, self._positions, self._amounts)
+        return self.put_cell(array, position, number)
 
     def with_number(self, name, number):
         """The situation with another integer for a position or value."""
-        positions, amounts = self.positions, self.amounts
         if name not in self._frame.positions and name not in self._frame.amounts:
             raise UnknownName(name)
         if not is_integer(number):
             raise InvalidSituation("this is no integer")
+        return self.put_number(name, number)
+
+    def put_cell(self, array, position, number):
+        """The same as `with_cell`, where all is right and the number can be of any length."""
+        rows = self.rows
+        rows[array] = rows[array][:position] + (number,) + rows[array][position + 1:]
+        return made_situation(self._frame, rows, self._positions, self._amounts)
+
+    def put_number(self, name, number):
+        """The same as `with_number`, where all is right and the number can be of any length."""
+        positions, amounts = self.positions, self.amounts
         changed = positions if name in positions else amounts
         changed[name] = number
-        return Situation(self._frame, self._rows, positions, amounts)
+        return made_situation(self._frame, self._rows, positions, amounts)
 
     def for_frame(self, frame):
         """The situation for another frame, whose names are all known here."""
@@ -148,7 +176,7 @@ class Situation:
             raise InvalidOperation("a value is none here")
         rows = {array: self._rows[array] for array, _ in frame.arrays}
         positions = {name: self._positions[name] for name in frame.positions}
-        return Situation(frame, rows, positions, {name: self._amounts[name] for name in frame.amounts})
+        return made_situation(frame, rows, positions, {name: self._amounts[name] for name in frame.amounts})
 
     def __len__(self):
         return len([cell for array in self._rows for cell in self._rows[array]])

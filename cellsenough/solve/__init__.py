@@ -1,0 +1,1 @@
+"""Differences, questions and trees of cases."""

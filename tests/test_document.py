@@ -3,8 +3,12 @@
 import unittest
 
 from cellsenough.base.frames import Frame, is_name
+from cellsenough.code.program import Outline, Program, is_rows
+from cellsenough.code.runs import Run, first_break, outcome
+from cellsenough.decide.compare import core, implications, needless as needless_claims, parting, thinned, weakest
+from cellsenough.decide.follows import Asker, breaking, follows, paper
 from cellsenough.logic.claims import (
-    all_between, claim_depth, is_claim, names_of, plain_claim, replaced, used_at)
+    all_between, claim_depth, in_order, is_claim, names_of, plain_claim, replaced, used_at)
 from cellsenough.solve.questions import Question
 from cellsenough.solve.rings import differences_of, is_ring, needless, ring, tightest
 from cellsenough.solve.trees import Closing
@@ -17,6 +21,8 @@ UPTO = ("all", ("k",), ("and", (("pos", "<=", ("", 0), ("k", 0)), ("pos", "<=", 
 SHOWN = Situation(FRAME, {"a": (4, 0, 7)}, {"i": 1, "j": 2}, {"x": 5})
 NEXT = Question(FRAME, (UPTO, ("val", "<=", ("a", "i", 1, 0), ("x", 0))), replaced(FRAME, UPTO, {"i": ("i", 1)}))
 BROKEN = Question(FRAME, (UPTO,), replaced(FRAME, UPTO, {"i": ("i", 1)}))
+UP = in_order(FRAME, "a", ("", 0), ("n", -1))
+LOW = all_between(FRAME, ("", 0), ("n", -1), "<=", ("a", "", 0, 0), ("a", "k", 0, 0))
 
 
 class Examples(unittest.TestCase):
@@ -78,6 +84,33 @@ class Examples(unittest.TestCase):
         self.assertEqual(told, [7, 8, 10])
         told = [closing.facts[11], closing.open_nodes, len(closing), str(closing)]
         self.assertEqual(told, [('not', ('pos', '<=', ('q', 0), ('i', 0))), (5, 6, 9, 11), 8, 'closing with 8 nodes, 4 open'])
+
+    def test_what_follows(self):
+        told = [follows(NEXT), follows(BROKEN), breaking(NEXT), BROKEN.is_broken_by(breaking(BROKEN)), paper(NEXT)[0]]
+        self.assertEqual(told, [True, False, None, True, 'follows'])
+        asker = Asker(FRAME)
+        told = [asker.tell(UPTO), asker.ask(("val", "<=", ("a", "i", 0, 0), ("x", 0))), asker.tell(("pos", "<=", ("", 0), ("i", 0))), asker.ask(("val", "<=", ("a", "i", 0, 0), ("x", 0))), str(asker)]
+        self.assertEqual(told, [True, 'open', True, 'yes', 'asker with 2 claims'])
+
+    def test_claims_beside_each_other(self):
+        told = [implications(FRAME, (UP, LOW)), weakest(FRAME, (UP, LOW)), needless_claims(FRAME, (UP, LOW)), thinned(FRAME, (LOW, UP, LOW))]
+        self.assertEqual(told, [((0, 1),), ((1,),), (1,), (1,)])
+        self.assertEqual([core(Question(FRAME, (LOW, UP), LOW)), parting(FRAME, UP, LOW, (UP,))], [(1,), None])
+
+    def test_programs_and_runs(self):
+        FILL = Program(FRAME, (("move", "i", ("", 0)), ("while", ("pos", "<", ("i", 0), ("n", 0)), (("write", "a", "i", 0, ("x", 0)), ("move", "i", ("i", 1))))))
+        told = [str(FILL), FILL.changed, FILL.row(3), FILL.loop_of(2), FILL.conditions, len(FILL + FILL)]
+        self.assertEqual(told, ['program of 4 rows, 1 loops', ('a', 'i'), ('move', 'i', ('i', 1)), 0, (('pos', '<', ('i', 0), ('n', 0)),), 8])
+        SAME = all_between(FRAME, ("", 0), ("i", -1), "==", ("a", "k", 0, 0), ("x", 0))
+        FILLED = Outline(FILL, notes=((SAME, ("pos", "<=", ("", 0), ("i", 0)), ("pos", "<=", ("i", 0), ("n", 0))),), after=(LOW,))
+        told = [str(FILLED), FILLED.with_notes(0, ()).notes, is_rows(FRAME, (("move", "x", ("", 0)),))]
+        self.assertEqual(told, ['outline of 4 rows, 4 claims', ((),), False])
+        ONES = Situation(FRAME, {"a": (1, 2, 3)}, {"i": 9, "j": 0}, {"x": 5})
+        run = Run(FILL, ONES)
+        told = [run.go(), run.go(), run.go(), run.situation.cell("a", 0), run.trail, str(run)]
+        self.assertEqual(told, [0, 1, 2, 5, (0, 1, 2), 'run at 3: 3 steps'])
+        told = [run.go_on(), run.is_done(), outcome(FILL, ONES)[2], first_break(FILLED, ONES), run.undo(many=11)[-1], run.next_row]
+        self.assertEqual(told, [8, True, 11, None, 0, 0])
 
 
 if __name__ == "__main__":

@@ -26,11 +26,26 @@ FUNCTIONS = {
         "differences_of": "(frame, claim)",
     },
     "cellsenough.solve.trees": {"is_tree": "(question, value)", "facts_at": "(question, tree, node)"},
+    "cellsenough.decide.follows": {
+        "follows": "(question)", "breaking": "(question)", "paper": "(question)", "is_paper": "(question, value)",
+    },
+    "cellsenough.decide.compare": {
+        "are_alike": "(frame, one, other, given=())", "parting": "(frame, one, other, given=())",
+        "implications": "(frame, claims, given=())", "claim_classes": "(frame, claims, given=())",
+        "strongest": "(frame, claims, given=())", "weakest": "(frame, claims, given=())",
+        "needless": "(frame, claims, given=())", "thinned": "(frame, claims, given=())", "core": "(question)",
+        "core_paper": "(question)", "is_core_paper": "(question, value)",
+    },
+    "cellsenough.code.program": {"is_rows": "(frame, value)"},
+    "cellsenough.code.runs": {
+        "outcome": "(program, situation, *, most=100)", "first_break": "(outline, situation, *, most=100)",
+    },
 }
 CONSTANTS = {
     "cellsenough.world.listing": {"MAX_LISTED": 200000},
     "cellsenough.solve.rings": {"MAX_DIFFERENCES": 60},
     "cellsenough.solve.questions": {"MAX_GIVEN": 40, "MAX_MEMBERS": 16},
+    "cellsenough.code.program": {"MAX_ROWS": 24, "MAX_LOOPS": 4, "MAX_INSIDE": 4, "MAX_NOTES": 8},
 }
 CLASSES = {
     ("cellsenough.base.frames", "Frame"): {
@@ -64,6 +79,25 @@ CLASSES = {
         "undo": "(self, *, many=1)", "twin": "(self)", "__bool__": "(self)", "__len__": "(self)",
         "__eq__": "(self, other)", "__str__": "(self)",
     },
+    ("cellsenough.decide.follows", "Asker"): {
+        "__init__": "(self, frame)", "tell": "(self, claim)", "ask": "(self, claim)", "why": "(self, claim)",
+        "example": "(self)", "undo": "(self, *, many=1)", "twin": "(self)", "__contains__": "(self, value)",
+        "__len__": "(self)", "__eq__": "(self, other)", "__str__": "(self)",
+    },
+    ("cellsenough.code.program", "Program"): {
+        "__init__": "(self, frame, rows)", "row": "(self, number)", "with_rows": "(self, number, rows)",
+        "loop_of": "(self, number)", "renamed": "(self, names)", "__add__": "(self, other)", "__iter__": "(self)",
+        "__len__": "(self)", "__eq__": "(self, other)", "__str__": "(self)",
+    },
+    ("cellsenough.code.program", "Outline"): {
+        "__init__": "(self, program, *, before=(), notes, after=())", "with_notes": "(self, loop, claims)",
+        "__len__": "(self)", "__eq__": "(self, other)", "__str__": "(self)",
+    },
+    ("cellsenough.code.runs", "Run"): {
+        "__init__": "(self, program, situation)", "is_done": "(self)", "is_faulty": "(self)", "go": "(self)",
+        "go_on": "(self, *, most=100)", "undo": "(self, *, many=1)", "twin": "(self)", "__len__": "(self)",
+        "__eq__": "(self, other)", "__str__": "(self)",
+    },
 }
 PROPERTIES = {
     ("cellsenough.base.frames", "Frame"): ("arrays", "positions", "amounts", "lengths"),
@@ -71,6 +105,10 @@ PROPERTIES = {
     ("cellsenough.solve.rings", "System"): ("differences", "fitting"),
     ("cellsenough.solve.questions", "Question"): ("frame", "claims", "goal", "members", "fresh", "few", "facts"),
     ("cellsenough.solve.trees", "Closing"): ("facts", "open_nodes", "tree"),
+    ("cellsenough.decide.follows", "Asker"): ("known",),
+    ("cellsenough.code.program", "Program"): ("frame", "rows", "conditions", "changed"),
+    ("cellsenough.code.program", "Outline"): ("program", "frame", "before", "notes", "after"),
+    ("cellsenough.code.runs", "Run"): ("situation", "next_row", "steps", "trail"),
 }
 
 

@@ -1,0 +1,1 @@
+"""What follows, and claims beside each other."""

@@ -61,6 +61,8 @@ class Alike(unittest.TestCase):
                         refusal(InvalidFrame, call, value, None, None, None)
                     if value != ("and", ()):
                         refusal(InvalidClaim, call, FRAME, value, None, None)
+                        refusal(InvalidClaim, call, FRAME, value, ATOM, ())
+                        refusal(InvalidClaim, call, FRAME, ATOM, value, ())
                         refusal(InvalidClaim, call, FRAME, ATOM, value, None)
                         refusal(InvalidClaim, call, FRAME, ATOM, ATOM, (value,))
                     if value != ():
@@ -263,6 +265,11 @@ class Cores(unittest.TestCase):
             self.assertIs(is_core_paper(question, (indices, tree, value)), False)
             if value is not SHOWN:
                 self.assertIs(is_core_paper(question, (indices, tree, (value,))), False)
+        # A paper with the claims in another order is none.
+        steps = tuple([("val", "<=", ("a", "", at, 0), ("a", "", at + 1, 0)) for at in range(2)])
+        chain = Question(FRAME, steps, ("val", "<=", ("a", "", 0, 0), ("a", "", 2, 0)))
+        turned = core_paper(Question(FRAME, steps[::-1], chain.goal))
+        self.assertEqual([turned[0], is_core_paper(chain, turned), is_core_paper(chain, ((1, 0), *turned[1:]))], [(0, 1), False, False])
         # There is no limit of members here.
         big = Question(FRAME, (reading(14), NEVER), below(0))
         alone = Question(FRAME, (NEVER,), below(0))

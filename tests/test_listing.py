@@ -146,6 +146,14 @@ class Wrong(unittest.TestCase):
         self.assertEqual(refusal(InvalidNumber, listed, FRAME, 2, 0, 10, None).given, 10)
         self.assertEqual(str(listed(FRAME, 2, 0, 1, 223)), "a=1 1 | i=2 j=2 | x=1")
 
+    def test_frame_ahead_of_claims(self):
+        for value in not_names():
+            if value is not FRAME:
+                refusal(InvalidFrame, first_with, value, None, None, None, None)
+                refusal(InvalidFrame, count_with, value, (ATOM,), 0, 0, 0)
+                refusal(InvalidFrame, first_with, value, (ATOM,), 0, 0, 0)
+                refusal(InvalidFrame, first_breaking, value, (ATOM,), ATOM, 0, 0, 0)
+
     def test_claims(self):
         for value in [*not_names(), [ATOM], (ATOM, None), (GUARD,), ((BODY,),), ATOM, (depth_by_nots(13),), ("and", ())]:
             if value == ():

@@ -79,7 +79,7 @@ class Fitting(unittest.TestCase):
         wrong = [{"": 0, "i": 4, "j": 3}, {"": 0, "i": 5, "j": 3}, {"": 0, "i": -9, "j": -11}, {"": 1, "i": 5, "j": 3},
                  {"i": 4, "j": 2}, {"": 0, "i": 4}, {**right, "k": 0}, {"": 0, "i": True, "j": -1}, {"": False, "i": 4, "j": 2},
                  {"": 0, "i": 4, ("j",): 2}, [("", 0), ("i", 4), ("j", 2)], (right,), {"": 0, "i": 4, "j": None},
-                 {"": 0, "i": 4, True: 2}]
+                 {"": 0, "i": 4, True: 2}, {"": 0, "i": 4, "k": 2}, {"": 0, "i": 4, CELL: 2}, {"k": 0, "i": 4, "j": 2}]
         for value in [*wrong, *not_names()]:
             with self.subTest(repr(value)[:60]):
                 self.assertIs(is_fitting(CHAIN, value), False)
@@ -103,6 +103,11 @@ class Fitting(unittest.TestCase):
         for more in (-LONG, -3, 0, LONG):
             differences = (("i", "j", LONG), ("l", "i", more), ("", "l", LONG), ("i", "", LONG), ("j", "i", -LONG))
             self.assertIs(is_fitting(differences, fitting(differences)), True)
+        # Only these numbers have no more than sixty digits.
+        told = fitting((("k", "l", -LONG), ("m", "k", -LONG)))
+        self.assertEqual(told, {"": 0, "k": 0, "l": LONG, "m": -LONG})
+        told = fitting((("k", "l", -LONG), ("m", "k", 1 - LONG)))
+        self.assertIs(is_fitting((("k", "l", -LONG), ("m", "k", 1 - LONG)), told), True)
         # There are integers, but none of at most sixty digits.
         beyond = (("i", "", -LONG), ("j", "i", -LONG))
         self.assertIsNone(ring(beyond))
@@ -220,6 +225,7 @@ class Wrong(unittest.TestCase):
         for value in no_points():
             with self.subTest(repr(value)[:60]):
                 refusal(InvalidTerm, tightest, CHAIN, value, None)
+                refusal(InvalidTerm, tightest, CHAIN, value, "i")
                 refusal(InvalidTerm, tightest, CHAIN, "i", value)
                 refusal(InvalidTerm, tightest, (("i", "i", -1),), "i", value)
         refusal(InvalidOperation, tightest, (("i", "i", -1),), "i", "i")

@@ -323,6 +323,8 @@ class Changed(unittest.TestCase):
         self.assertIs(run != other, True)
         other.go()
         self.assertIs(run == other, True)
+        self.assertIs(Run(FILL, SHOWN) == Run(FILL, ONES), False)
+        self.assertIs(Run(program(*NUMBERED), ONES) == Run(FILL, ONES), False)
         others = [Run(FILL, SHOWN), Run(program(*NUMBERED), ONES), Run(FILL, ONES), FILL]
         for value in [*others, *not_names()]:
             with self.subTest(repr(value)[:40]):
@@ -338,6 +340,16 @@ class Changed(unittest.TestCase):
         run = Run(FILL, long)
         self.assertEqual([run.go_on(most=10000), len(run.undo(many=3002)), run.situation], [3002, 3002, long])
         self.assertLess(time.monotonic() - began, 10)
+
+    def test_a_hundred_steps_unless_told(self):
+        self.assertEqual(outcome(program(SPIN), ONES), ("long", ONES, 100))
+        rows = program(("while", ALWAYS, (MOVE,)))
+        self.assertEqual(outcome(rows, at())[1], at(i=50))
+        self.assertEqual(first_break(Outline(rows, notes=((("pos", "<", I, ("", 50)),),)), at()), ("note", 0, 0, 50))
+        self.assertIsNone(first_break(Outline(rows, notes=((("pos", "<", I, ("", 51)),),)), at()))
+        late = program(*[MOVE] * 3, ("while", ALWAYS, (MOVE,)))
+        self.assertEqual(first_break(Outline(late, notes=((("pos", "<", I, ("", 51)),),)), at()), ("note", 0, 0, 48))
+        self.assertIsNone(first_break(Outline(late, notes=((("pos", "<", I, ("", 52)),),)), at()))
 
 
 class Wrong(unittest.TestCase):

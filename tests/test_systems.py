@@ -55,8 +55,10 @@ class Systems(unittest.TestCase):
         for value in no_points():
             with self.subTest(repr(value)[:60]):
                 refusal(InvalidTerm, system.add, value, None, None)
+                refusal(InvalidTerm, system.add, value, "i", 0)
                 refusal(InvalidTerm, system.add, "i", value, None)
                 refusal(InvalidTerm, system.bound, value, None)
+                refusal(InvalidTerm, system.bound, value, "i")
                 refusal(InvalidTerm, system.bound, "i", value)
         for value in not_integers():
             with self.subTest(repr(value)[:60]):

@@ -104,6 +104,16 @@ class Judged(unittest.TestCase):
             with self.subTest(node):
                 self.judge(NEXT, with_node(number, node), False)
 
+    def test_nodes_that_are_named_twice_or_by_themselves(self):
+        ring = ("ring", ((1, 0),))
+        told = question_of(("pos", "<", I, I), ("and", (ATOM,)))
+        self.judge(told, (("apart", I, J, (1, 2, 3)), ring, ring, ring))
+        self.judge(told, (("apart", I, J, (1, 1, 1)), ring), False)
+        self.judge(told, (("apart", I, J, (1, 2, 2)), ring, ring), False)
+        self.judge(told, (("part", 2, 0, 0), ring), False)
+        self.judge(told, (("part", 2, 0, 2), ("part", 2, 0, 1), ring), False)
+        self.judge(told, (("part", 2, 0, 2), ring, ("part", 2, 0, 1)), False)
+
     def test_wrong_question(self):
         for value in not_names():
             refusal(InvalidQuestion, is_tree, value, None)
@@ -263,6 +273,55 @@ class Kinds(unittest.TestCase):
         self.judge(first, (("outside", "a", 1, 1), ("ring", ((4, 0), (2, 0)))))
         second = question_of(fact, ("val", "<", ("", 0), ("a", "", 0, 0)))
         self.judge(second, (("outside", "a", 1, 1), ("ring", ((4, 0), (2, 0)))), False)
+
+
+class Single(unittest.TestCase):
+    """Single nodes in a question that has a ring in each case, so that nothing but the node is judged."""
+
+    def test_nodes(self):
+        # All these are names that can be own names, or be made.
+        plain = ("all", ("or",), ("pos", "<=", ("or", 0), I), ("val", "<", ("a", "or", 0, 0), X))
+        pair = ("all", ("not", "pos"), ("and", ()), ("val", "<", ("a", "not", 0, 0), ("a", "pos", 0, 0)))
+        no = ("pos", "<", I, I)
+        given = (no, ("and", (ATOM, no)), ("or", (ATOM, no)), ("not", ("or", (ATOM, no, ATOM))), ("not", ("and", (ATOM,))),
+                 ("not", ("not", ATOM)), ("not", plain), ("not", pair), plain, pair, ("pos", "==", I, J), ("val", "==", X, X),
+                 ("val", "<", X, ("", 0)), ("pos", "<", I, ("", 0)), ("pos", "<", ("n", -1), I), ("not", ("pos", "==", I, J)), ("not", no),
+                 ("val", "<", ("", -1), X))
+        told = question_of(*given)
+        K, L = ("not", 0), ("pos", 0)
+        right = {
+            ("part", 2, 0), ("part", 2, 1), ("part", 4, 0), ("part", 4, 2), ("part", 6, 0), ("cases", 3), ("cases", 5), ("cases", 16),
+            ("new", 7, ("q",)), ("new", 7, ("or",)), ("new", 8, ("pos", "not")), ("at", 9, (I,)), ("at", 10, (I, ("n", -3))),
+            ("same", "a", 11), ("outside", "a", 14), ("outside", "a", 15), ("apart", I, J), ("apart", ("", 0), ("n", 5)),
+        }
+        wrong = [
+            ("part", 2, 2), ("part", 4, 3), ("part", 6, 1), ("part", 1, 0), ("part", 3, 0), ("part", 5, 0), ("part", 7, 0), ("part", 9, 0),
+            ("part", 9, 1), ("part", 10, 0), ("part", 19, 0), ("part", 20, 0), ("part", -1, 0), ("part", 17, 0), ("part", 16, 0), ("cases", 1), ("cases", 2),
+            ("cases", 4), ("cases", 6), ("cases", 7), ("cases", 9), ("cases", 11), ("cases", 17), ("cases", 19), ("new", 9, ("q",)),
+            ("new", 10, ("q", "r")), ("new", 8, ("q", "q")), ("new", 8, ("q",)), ("new", 7, ("q", "r")), ("new", 6, ("q",)), ("new", 4, ("q",)),
+            ("new", 1, ("q",)), ("new", 16, ("q",)), ("new", 7, ("a",)), ("at", 7, (I,)), ("at", 8, (I, I)), ("at", 1, (I,)), ("at", 3, (I,)),
+            ("at", 9, (I, I)), ("at", 10, (I,)), ("at", 9, (X,)), ("at", 9, (("or", 0),)), ("at", 10, (K, L)), ("same", "n", 11),
+            ("same", "b", 11), ("same", "a", 12), ("same", "a", 1), ("same", "a", 16), ("same", "x", 11), ("outside", "a", 13),
+            ("outside", "a", 18), ("outside", "a", 1), ("outside", "x", 14), ("outside", "a", 11), ("apart", I, X), ("apart", ("q", 0), I),
+            ("apart", I, ("", True)), ("apart", I, ("", TOO_LONG)),
+        ]
+        for step in [*sorted(right, key=repr), *wrong]:
+            many = {"cases": 2 if step[1] != 5 else 1, "apart": 3}.get(step[0], 1)
+            nexts = tuple(range(1, many + 1)) if step[0] in ("cases", "apart") else 1
+            tree = ((*step, nexts), *[("ring", ((1, 0),))] * many)
+            with self.subTest(step):
+                self.assertIs(is_tree(told, tree), step in right)
+
+    def test_the_first_fact(self):
+        told = question_of(("pos", "<", N, ("", 0)))
+        self.assertIs(is_tree(told, (("ring", ((0, 0), (1, 0))),)), True)
+
+    def test_what_is_added(self):
+        told = question_of(("pos", "<", ("i", 2), ("", 0)), ("pos", "==", I, ("j", 3)), ("pos", "<", I, I), ("pos", "<", ("n", -1), ("j", 4)))
+        ring = ("ring", ((3, 0),))
+        for step, added in [(("outside", "a", 1), ("val", "==", ("a", "i", 2, 0), ("", 0))), (("outside", "a", 4), ("val", "==", ("a", "j", 4, 0), ("", 0))),
+                            (("same", "a", 2), ("val", "==", ("a", "i", 0, 0), ("a", "j", 3, 0)))]:
+            self.assertEqual(facts_at(told, ((*step, 1), ring), 1), (*told.facts, added))
 
 
 class Facts(unittest.TestCase):

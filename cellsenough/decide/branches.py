@@ -77,20 +77,21 @@ class Branch:
         return None
 
     def marks(self):
-        """The marks of what is known."""
-        words = ("pos", "val")
-        lists = (self.alls, self.open_facts, self.made, self.done)
-        return ([self.bounds[word].mark() for word in words], [len(told) for told in lists], len(self._log))
+        """The marks of what is known; the first one is the number of steps that were done."""
+        bounds = (self.bounds["pos"].mark(), self.bounds["val"].mark())
+        return (len(self.done), len(self.alls), len(self.open_facts), len(self.made), len(self._log), *bounds)
 
     def back_to(self, marks):
         """Takes back all that came behind the marks."""
-        places, amounts = marks[0]
+        done, alls, open_facts, made, log, places, amounts = marks
+        del self.done[done:]
+        del self.alls[alls:]
+        del self.open_facts[open_facts:]
+        del self.made[made:]
+        while len(self._log) > log:
+            del self._seen[self._log.pop()]
         self.bounds["pos"].back_to(places)
         self.bounds["val"].back_to(amounts)
-        for told, many in zip((self.alls, self.open_facts, self.made, self.done), marks[1]):
-            del told[many:]
-        while len(self._log) > marks[2]:
-            del self._seen[self._log.pop()]
 
     def _number(self, claim):
         """The number of a new fact."""

@@ -60,7 +60,7 @@ class _Search:
         """Closes a way by its proof and begins the next one. If no way is left, the whole proof is there."""
         while self._splits:
             split = self._splits[-1]
-            proof.take_all(self._branch.done[split.place[1][-1]:])
+            proof.take_all(self._branch.done[split.place[0]:])
             self._branch.back_to(split.place)
             if proof.needs(split.fact):
                 split.close(proof)

@@ -81,6 +81,8 @@ class _Search:
                 continue
             verdicts = [verdict(form, self._branch.bounds) for form in forms]
             if True in verdicts:
+                # One of its cases stays true on this way, so it needs no other look.
+                self._branch.see(fact, True)
                 continue
             many = verdicts.count(None)
             if many == 0:

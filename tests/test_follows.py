@@ -94,7 +94,7 @@ class Papers(unittest.TestCase):
 
     def test_random(self):
         told = {True: 0, False: 0}
-        for seed in range(700):
+        for seed in range(760):
             question, _ = random_question(seed)
             if len(question.members) > 16:
                 continue

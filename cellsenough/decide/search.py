@@ -76,7 +76,7 @@ class _Search:
     def _forced_cases(self):
         """A fact of which at most one case is possible, with the verdicts of its cases, or None."""
         found = None
-        for fact, forms in self._branch.open_facts:
+        for fact, forms in list(self._branch.open_facts):
             if self._branch.seen(fact) is not None:
                 continue
             verdicts = [verdict(form, self._branch.bounds) for form in forms]
@@ -117,7 +117,7 @@ class _Search:
     def _wrong_cases(self, rows, numbers):
         """A fact that is false in the guess, with the verdicts of its cases, few of them possible; or None."""
         best = None
-        for fact, forms in self._branch.open_facts:
+        for fact, forms in list(self._branch.open_facts):
             if self._branch.seen(fact) is None and not is_true(rows, numbers, self._branch.claim_of(fact)):
                 verdicts = [verdict(form, self._branch.bounds) for form in forms]
                 if best is None or verdicts.count(None) < best[1].count(None):

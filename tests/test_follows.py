@@ -167,6 +167,11 @@ class Papers(unittest.TestCase):
         self.check(question_of(*given, wanted=("val", "<=", X, ("a", "j", 0, -2 * far))), True)
         shown = self.check(question_of(*given, wanted=("val", "<=", X, ("a", "j", 0, -2 * far - 1))), False)[1]
         self.assertTrue(all(abs(number) < 10 ** 61 for row in shown.rows.values() for number in row))
+        # Here the numbers fit into sixty digits only if the middle one is near to 0.
+        frame = Frame((("a", "n"),), ("i",), ("u", "v", "w"))
+        steps = (("val", "<=", ("u", LONG), ("v", 0)), ("val", "<=", ("v", LONG - 9), ("a", "i", 0, 0)))
+        shown = self.check(Question(frame, steps, ("val", "==", ("w", 0), ("", 0))), False)[1]
+        self.assertEqual(Situation(frame, shown.rows, shown.positions, shown.amounts), shown)
         # Here integers with more digits than a situation can be made of are needed.
         beyond = question_of(("val", "==", X, ("", LONG)), wanted=("val", "<=", ("a", "i", 0, 0), ("x", LONG)))
         self.check(beyond, False)

@@ -1,5 +1,7 @@
 """Guesses: numbers for all names that agree with what is known of them, and rows of cells beside them."""
 
+from cellsenough.base.integers import LIMIT, is_integer
+
 TRIES = 200
 
 
@@ -68,7 +70,28 @@ def add_equalities(bounds, frame, numbers):
 
 
 def guessed_values(bounds, frame, numbers):
-    """A dict of numbers for "", values and cells that fit the bounds."""
+    """A dict of numbers for "", values and cells that fit the bounds, of at most sixty digits where there are such."""
+    values = _small_values(bounds, frame, numbers)
+    if all([is_integer(values[point]) for point in values]):
+        return values
+    mark = bounds.mark()
+    fits = [_add_limits(bounds, point) for point in values]
+    short = _small_values(bounds, frame, numbers) if all(fits) else values
+    bounds.back_to(mark)
+    return short
+
+
+def guessed_rows(frame, numbers, values):
+    """The rows of all arrays: cells that are not known are like the next known one on their left, or on their right."""
+    known = {array: {} for array, _ in frame.arrays}
+    for point in values:
+        if isinstance(point, tuple):
+            known[point[0]][numbers[point[1]] + point[2]] = values[point]
+    return {array: _filled(known[array], numbers[length]) for array, length in frame.arrays}
+
+
+def _small_values(bounds, frame, numbers):
+    """Numbers that fit the bounds, each near to 0 or to that of the cell ahead of it."""
     values = {"": 0}
     for name in frame.amounts:
         values[name] = _nearest(bounds, values, name, 0)
@@ -80,13 +103,12 @@ def guessed_values(bounds, frame, numbers):
     return values
 
 
-def guessed_rows(frame, numbers, values):
-    """The rows of all arrays: cells that are not known are like the next known one on their left, or on their right."""
-    known = {array: {} for array, _ in frame.arrays}
-    for point in values:
-        if isinstance(point, tuple):
-            known[point[0]][numbers[point[1]] + point[2]] = values[point]
-    return {array: _filled(known[array], numbers[length]) for array, length in frame.arrays}
+def _add_limits(bounds, point):
+    """Adds that a point has at most sixty digits; whether this can be."""
+    for one, other in ((point, ""), ("", point)):
+        if bounds.add(one, other, LIMIT - 1, None) is not None:
+            return False
+    return True
 
 
 def _filled(known, length):

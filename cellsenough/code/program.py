@@ -1,9 +1,9 @@
 """Programs with loops, and outlines, which are programs with claims about them."""
 
+from cellsenough.base.checks import check_index
 from cellsenough.base.frames import check_frame
-from cellsenough.base.integers import is_integer
 from cellsenough.code.rows import are_rows, given_name, places_of, renamed_rows, rows_with
-from cellsenough.errors import InvalidClaim, InvalidNumber, InvalidOperation, InvalidProgram
+from cellsenough.errors import InvalidClaim, InvalidOperation, InvalidProgram
 from cellsenough.logic.shapes import are_claims, check_claims
 
 MAX_ROWS = 24
@@ -93,8 +93,7 @@ class Program:
 
     def _check_number(self, number):
         """Refuses what is no number of a row."""
-        if not is_integer(number) or not 0 <= number < len(self._all_rows):
-            raise InvalidNumber(number)
+        check_index(number, len(self._all_rows))
 
     def __add__(self, other):
         if not isinstance(other, Program) or self._frame != other._frame:
@@ -155,8 +154,7 @@ class Outline:
 
     def with_notes(self, loop, claims):
         """The outline with other claims for a loop."""
-        if not is_integer(loop) or not 0 <= loop < len(self._notes):
-            raise InvalidNumber(loop)
+        check_index(loop, len(self._notes))
         check_claims(self.frame, claims, MAX_NOTES)
         notes = (*self._notes[:loop], claims, *self._notes[loop + 1:])
         return Outline(self._program, before=self._before, notes=notes, after=self._after)

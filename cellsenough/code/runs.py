@@ -1,9 +1,9 @@
 """Runs of programs, step by step."""
 
-from cellsenough.base.integers import is_integer
+from cellsenough.base.checks import check_index, check_undo
 from cellsenough.code.program import Outline, check_program
 from cellsenough.code.steps import effect_of, undoing, with_effect
-from cellsenough.errors import InvalidNumber, InvalidOperation, InvalidProgram, InvalidSituation, NothingToUndo
+from cellsenough.errors import InvalidOperation, InvalidProgram, InvalidSituation
 from cellsenough.world.situations import Situation
 
 MOST_STEPS = 10000
@@ -103,10 +103,7 @@ class Run:
 
     def undo(self, *, many=1):
         """Takes the last steps back, and returns the numbers of their rows, the last one first."""
-        if not is_integer(many) or many < 0:
-            raise InvalidNumber(many)
-        if many > len(self._history):
-            raise NothingToUndo(many)
+        check_undo(many, len(self._history))
         taken = []
         situation = self._situation
         for _ in range(many):
@@ -148,8 +145,7 @@ class Run:
 
 def _check_most(most):
     """Refuses what is no number of steps."""
-    if not is_integer(most) or not 0 <= most <= MOST_STEPS:
-        raise InvalidNumber(most)
+    check_index(most, MOST_STEPS + 1)
 
 
 def _first_false(claims, situation):

@@ -1,10 +1,10 @@
 """What follows from given claims, and an asker that answers by what it is told."""
 
+from cellsenough.base.checks import check_undo
 from cellsenough.base.frames import check_frame
-from cellsenough.base.integers import is_integer
 from cellsenough.decide.limits import check_small
 from cellsenough.decide.search import decided
-from cellsenough.errors import InvalidNumber, InvalidOperation, NothingToUndo, Refused
+from cellsenough.errors import InvalidOperation, Refused
 from cellsenough.logic.claims import is_claim
 from cellsenough.logic.shapes import check_claim
 from cellsenough.solve.questions import MAX_GIVEN, Question, check_question
@@ -86,10 +86,7 @@ class Asker:
 
     def undo(self, *, many=1):
         """Makes the last claims unknown and returns them, the last one first."""
-        if not is_integer(many) or many < 0:
-            raise InvalidNumber(many)
-        if many > len(self._known):
-            raise NothingToUndo(many)
+        check_undo(many, len(self._known))
         kept = len(self._known) - many
         taken = self._known[kept:]
         self._known = self._known[:kept]

@@ -1,8 +1,8 @@
 """Questions: whether a claim follows from given ones."""
 
-from cellsenough.base.frames import Frame, check_frame
-from cellsenough.base.integers import is_integer
-from cellsenough.errors import InvalidClaim, InvalidNumber, InvalidOperation, InvalidQuestion, InvalidSituation
+from cellsenough.base.checks import check_index
+from cellsenough.base.frames import check_frame
+from cellsenough.errors import InvalidOperation, InvalidQuestion, InvalidSituation
 from cellsenough.logic.claims import is_claim, renamed_claim
 from cellsenough.logic.shapes import are_claims, check_claim
 from cellsenough.solve.members import greatest_number, laid_rows, member_terms, negative_alls, squeezed
@@ -119,8 +119,7 @@ class Question:
 
     def without(self, index):
         """The question without a given claim."""
-        if not is_integer(index) or not 0 <= index < len(self._claims):
-            raise InvalidNumber(index)
+        check_index(index, len(self._claims))
         return Question(self._frame, self._claims[:index] + self._claims[index + 1:], self._goal)
 
     def wanting(self, claim):

@@ -1,8 +1,9 @@
 """Differences: numbers that fit them, rings that show that none do, and systems that are added to one by one."""
 
+from cellsenough.base.checks import check_undo
 from cellsenough.base.frames import check_frame
 from cellsenough.base.integers import LIMIT, are_integers, is_integer
-from cellsenough.errors import InvalidNumber, InvalidOperation, InvalidTerm, NothingToUndo, Refused, TooMany
+from cellsenough.errors import InvalidNumber, InvalidOperation, InvalidTerm, Refused, TooMany
 from cellsenough.logic.shapes import check_claim
 from cellsenough.solve.differing import are_differences, is_point, is_ring_of, least_bound, literal_differences
 from cellsenough.solve.differing import numbers_or_ring, points_of
@@ -114,10 +115,7 @@ class System:
 
     def undo(self, *, many=1):
         """Takes the last differences back and returns them, the last one first."""
-        if not is_integer(many) or many < 0:
-            raise InvalidNumber(many)
-        if many > len(self._differences):
-            raise NothingToUndo(many)
+        check_undo(many, len(self._differences))
         kept = len(self._differences) - many
         taken = self._differences[kept:]
         self._differences = self._differences[:kept]

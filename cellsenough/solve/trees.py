@@ -1,7 +1,8 @@
 """Trees of cases, which show that questions follow."""
 
+from cellsenough.base.checks import check_index, check_undo
 from cellsenough.base.integers import is_integer
-from cellsenough.errors import InvalidNumber, InvalidOperation, NothingToUndo
+from cellsenough.errors import InvalidOperation
 from cellsenough.solve.nodes import SINGLE, SIZES, SPLIT, branches_of, names_made
 from cellsenough.solve.questions import check_question
 
@@ -17,8 +18,7 @@ def facts_at(question, tree, node):
     check_question(question)
     if not _is_tree(question, tree):
         raise InvalidOperation("this is no tree of the question")
-    if not is_integer(node) or not 0 <= node < len(tree):
-        raise InvalidNumber(node)
+    check_index(node, len(tree))
     return _facts_at(question, tree, node)
 
 
@@ -88,10 +88,7 @@ class Closing:
 
     def undo(self, *, many=1):
         """Takes the last steps back, and returns how many nodes are open then."""
-        if not is_integer(many) or many < 0:
-            raise InvalidNumber(many)
-        if many > len(self._steps):
-            raise NothingToUndo(many)
+        check_undo(many, len(self._steps))
         for _ in range(many):
             place, _, nexts = self._steps.pop()
             self._open = self._open[:len(self._open) - nexts]

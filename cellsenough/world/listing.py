@@ -1,5 +1,6 @@
 """All situations of few cells, in their order, without going through all of them where one is asked for."""
 
+from cellsenough.base.checks import check_index
 from cellsenough.base.frames import check_frame
 from cellsenough.base.integers import is_integer
 from cellsenough.errors import InvalidNumber, TooMany
@@ -32,8 +33,7 @@ def listed(frame, cells, low, high, index):
     """The situation of the span with this index in the order."""
     _check_span(frame, cells, low, high)
     width = high - low + 1
-    if not is_integer(index) or not 0 <= index < _many(frame, cells, width):
-        raise InvalidNumber(index)
+    check_index(index, _many(frame, cells, width))
     lengths, left = _lengths_at(frame, cells, width, index)
     many_cells = sum([lengths[length] for _, length in frame.arrays])
     # The last things of the order are the last digits of what is left.
@@ -104,8 +104,7 @@ def _first(frame, judge, cells, low, high):
 def _check_span(frame, cells, low, high):
     """Refuses what is no frame or tells no span."""
     check_frame(frame)
-    if not is_integer(cells) or not 0 <= cells <= MOST_CELLS:
-        raise InvalidNumber(cells)
+    check_index(cells, MOST_CELLS + 1)
     if not is_integer(low) or not LEAST <= low <= GREATEST:
         raise InvalidNumber(low)
     if not is_integer(high) or not low <= high <= GREATEST:

@@ -1,6 +1,6 @@
 """Situations: rows for the arrays of a frame, and integers for its positions and values."""
 
-from cellsenough.base.frames import Frame, check_frame
+from cellsenough.base.frames import check_frame
 from cellsenough.base.integers import are_integers, is_integer
 from cellsenough.errors import InvalidNumber, InvalidOperation, InvalidSituation, InvalidTerm, UnknownName
 from cellsenough.logic.shapes import check_claim

@@ -14,8 +14,9 @@ BUILTINS = (
 METHODS = (
     "append clear copy count endswith extend find get index insert isalnum isalpha isdigit islower isspace isupper items "
     "join keys ljust lower lstrip partition pop remove replace reverse rfind rjust rpartition rsplit rstrip setdefault "
-    "split splitlines startswith strip update upper values zfill bit_length add discard sort").split()
+    "split splitlines startswith strip update upper values zfill bit_length add discard sort isascii").split()
 DOUBLE = "__init__ __eq__ __repr__ __str__ __len__ __contains__ __iter__ __bool__ __call__ __getitem__ __add__".split()
+CHANGING = "append clear extend insert pop remove reverse setdefault sort update add discard".split()
 NEVER = "mro elements open input law register id help vars dir compile globals locals exit quit copyright".split()
 
 
@@ -39,6 +40,39 @@ def bound_in(tree):
     for node in ast.walk(tree):
         if isinstance(node, ast.ImportFrom):
             names |= {alias.name for alias in node.names}
+    return names
+
+
+def names_walked(node):
+    """The names that a loop goes over, also through enumerate, zip, reversed and the views of dicts."""
+    if isinstance(node, ast.Name):
+        return {node.id}
+    if isinstance(node, ast.Call) and isinstance(node.func, ast.Name) and node.func.id in ("enumerate", "zip", "reversed"):
+        return {name for part in node.args for name in names_walked(part)}
+    if isinstance(node, ast.Call) and isinstance(node.func, ast.Attribute) and node.func.attr in ("items", "keys", "values"):
+        return names_walked(node.func.value)
+    return set()
+
+
+def names_alike(function, names):
+    """The names, and those that the function gives one of their lists, or a list of which it gives them."""
+    pairs = [(node.targets[0].id, node.value.id) for node in ast.walk(function) if isinstance(node, ast.Assign)
+             and isinstance(node.targets[0], ast.Name) and isinstance(node.value, ast.Name)]
+    for _ in pairs:
+        names = names | {one for pair in pairs for one in pair if names & set(pair)}
+    return names
+
+
+def names_changed(loop):
+    """The names whose lists or dicts are changed in the rows of a loop."""
+    names = set()
+    for node in [part for row in loop.body for part in ast.walk(row)]:
+        if isinstance(node, ast.Call) and isinstance(node.func, ast.Attribute) and isinstance(node.func.value, ast.Name):
+            names |= {node.func.value.id} if node.func.attr in CHANGING else set()
+        if isinstance(node, ast.Subscript) and not isinstance(node.ctx, ast.Load) and isinstance(node.value, ast.Name):
+            names.add(node.value.id)
+        if isinstance(node, ast.AugAssign) and isinstance(node.target, ast.Name):
+            names.add(node.target.id)
     return names
 
 
@@ -118,6 +152,28 @@ class Language(unittest.TestCase):
                 if isinstance(node, ast.Attribute) and isinstance(node.ctx, ast.Store):
                     stored.add(node.attr)
         self.assertEqual([sorted(properties & methods), sorted(properties & stored), sorted(methods & stored)], [[], [], []])
+
+    def test_names_of_classes_begin_with_a_letter(self):
+        for path, tree in self.each():
+            for node in ast.walk(tree):
+                if isinstance(node, ast.ClassDef):
+                    self.assertTrue(node.name[0].isalpha(), f"{path}: {node.name}")
+
+    def test_what_a_loop_walks_is_not_changed_in_it(self):
+        for path, tree in self.each():
+            for function in [node for node in ast.walk(tree) if isinstance(node, ast.FunctionDef)]:
+                for loop in [node for node in ast.walk(function) if isinstance(node, ast.For)]:
+                    walked = names_alike(function, names_walked(loop.iter))
+                    self.assertEqual(sorted(walked & names_changed(loop)), [], f"{path}: {function.name}")
+
+    def test_the_look_at_loops_finds_what_it_should(self):
+        told = "def f(level):\n    while level:\n        below = []\n        for part in CALL:\n            {}\n        level = below\n"
+        for walked in ("level", "enumerate(level)", "reversed(level)", "zip(level, level)"):
+            for row, is_wrong in (("below.extend(part)", True), ("level.append(1)", True), ("below[0] = part", True),
+                                  ("del level[0]", True), ("below += part", True), ("other.append(1)", False)):
+                function = ast.parse(told.replace("CALL", walked).format(row)).body[0]
+                loop = next(node for node in ast.walk(function) if isinstance(node, ast.For))
+                self.assertIs(bool(names_alike(function, names_walked(loop.iter)) & names_changed(loop)), is_wrong)
 
     def test_methods(self):
         own = set()

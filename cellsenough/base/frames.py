@@ -3,7 +3,6 @@
 from cellsenough.base.integers import is_integer
 from cellsenough.errors import InvalidFrame, InvalidNumber, InvalidOperation, InvalidTerm, UnknownName
 
-LETTERS = "abcdefghijklmnopqrstuvwxyz"
 LONGEST_NAME = 8
 MAX_ARRAYS = 12
 MAX_POSITIONS = 6
@@ -15,7 +14,7 @@ def is_name(value):
     """Whether the value is a name."""
     if not isinstance(value, str) or not 1 <= len(value) <= LONGEST_NAME:
         return False
-    return all([letter in LETTERS for letter in value])
+    return value.isascii() and value.isalpha() and value.islower()
 
 
 def are_own_names(frame, value):
@@ -124,16 +123,12 @@ class Frame:
     def is_position_term(self, value, *, own=()):
         """Whether the value is a position term, where the own names count as positions."""
         _check_own(self, own)
-        return self._is_place(value, own)
+        return self.has_place(value, own)
 
     def is_value_term(self, value, *, own=()):
         """Whether the value is a value term, where the own names count as positions."""
         _check_own(self, own)
-        if not isinstance(value, tuple):
-            return False
-        if len(value) == 4:
-            return self._is_of_kind(value[0], "array") and self._is_place(value[1:3], own) and is_integer(value[3])
-        return len(value) == 2 and (value[0] == "" or self._is_of_kind(value[0], "value")) and is_integer(value[1])
+        return self.has_amount(value, own)
 
     def shifted(self, term, number):
         """The position term or value term with so much more."""
@@ -164,16 +159,24 @@ class Frame:
         positions = tuple([new[name] for name in self._positions])
         return Frame(arrays, positions, tuple([new[name] for name in self._amounts]))
 
-    def _is_of_kind(self, value, kind):
-        """Whether the value is a name of this kind."""
-        return isinstance(value, str) and self._kinds.get(value) == kind
-
-    def _is_place(self, value, own):
-        """Whether the value is a position term with names of the frame and own names."""
+    def has_place(self, value, own):
+        """The same as `is_position_term`, for own names that are right ones."""
         if not isinstance(value, tuple) or len(value) != 2 or not is_integer(value[1]):
             return False
         name = value[0]
         return name == "" or name in own or self._is_of_kind(name, "position") or self._is_of_kind(name, "length")
+
+    def has_amount(self, value, own):
+        """The same as `is_value_term`, for own names that are right ones."""
+        if not isinstance(value, tuple):
+            return False
+        if len(value) == 4:
+            return self._is_of_kind(value[0], "array") and self.has_place(value[1:3], own) and is_integer(value[3])
+        return len(value) == 2 and (value[0] == "" or self._is_of_kind(value[0], "value")) and is_integer(value[1])
+
+    def _is_of_kind(self, value, kind):
+        """Whether the value is a name of this kind."""
+        return isinstance(value, str) and self._kinds.get(value) == kind
 
     def __contains__(self, value):
         return isinstance(value, str) and value in self._kinds

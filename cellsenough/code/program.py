@@ -24,6 +24,12 @@ def check_program(program):
         raise InvalidProgram("this is no program")
 
 
+def check_outline(outline):
+    """Refuses what is no outline."""
+    if not isinstance(outline, Outline):
+        raise InvalidProgram("this is no outline")
+
+
 class Program:
     """Rows for a frame, which are numbered in the order of their beginnings."""
 

@@ -9,18 +9,16 @@ def are_rows(frame, value, most_rows, most_loops, most_inside):
     level = [value]
     inside = many = loops = 0
     while level:
-        below = []
-        for rows in level:
-            if not isinstance(rows, tuple) or (len(rows) > 0 and inside > most_inside):
-                return False
-            for row in rows:
-                if not _is_row(frame, row):
-                    return False
-                below.extend(inner_rows(row))
-                many += 1
-                if row[0] == "while":
-                    loops += 1
-        level = below
+        if not all([isinstance(rows, tuple) for rows in level]):
+            return False
+        found = [row for rows in level for row in rows]
+        if len(found) > 0 and inside > most_inside:
+            return False
+        if not all([_is_row(frame, row) for row in found]):
+            return False
+        many += len(found)
+        loops += len([row for row in found if row[0] == "while"])
+        level = [rows for row in found for rows in inner_rows(row)]
         inside += 1
     return many <= most_rows and loops <= most_loops
 

@@ -1,9 +1,9 @@
 """Runs of programs, step by step."""
 
 from cellsenough.base.checks import check_index, check_undo
-from cellsenough.code.program import Outline, check_program
+from cellsenough.code.program import check_outline, check_program
 from cellsenough.code.steps import effect_of, undoing, with_effect
-from cellsenough.errors import InvalidOperation, InvalidProgram, InvalidSituation
+from cellsenough.errors import InvalidOperation, InvalidSituation
 from cellsenough.world.situations import Situation
 
 MOST_STEPS = 10000
@@ -23,8 +23,7 @@ def outcome(program, situation, *, most=100):
 
 def first_break(outline, situation, *, most=100):
     """The first claim of the outline that is false in a run, or its fault, within so many steps, or None."""
-    if not isinstance(outline, Outline):
-        raise InvalidProgram("this is no outline")
+    check_outline(outline)
     run = Run(outline.program, situation)
     _check_most(most)
     index = _first_false(outline.before, situation)

@@ -10,8 +10,11 @@ LETTERS = "pqrstuvwyzbcdefghlmoaijknx"
 
 def fresh_names(frame, many):
     """A list of so many different names that are fresh for the frame."""
-    told = [*LETTERS, *[one + other for one in LETTERS for other in LETTERS]]
-    return [name for name in told if frame.is_fresh(name)][:many]
+    # Most frames leave enough letters, and most questions need few of them.
+    found = [name for name in LETTERS if name not in frame] if many > 0 else []
+    if len(found) < many:
+        found.extend([one + other for one in LETTERS for other in LETTERS if one + other not in frame])
+    return found[:many]
 
 
 class Branch:

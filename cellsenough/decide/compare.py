@@ -2,7 +2,7 @@
 
 from cellsenough.base.frames import check_frame
 from cellsenough.base.integers import are_integers
-from cellsenough.decide.limits import check_small
+from cellsenough.decide.limits import check_all_small, check_small
 from cellsenough.decide.search import decided
 from cellsenough.errors import InvalidClaim, InvalidOperation
 from cellsenough.logic.shapes import check_claim, check_claims
@@ -54,7 +54,7 @@ def needless(frame, claims, given=()):
     _check_compared(frame, claims, given)
     indices = range(len(claims))
     questions = [Question(frame, given + claims[:at] + claims[at + 1:], claims[at]) for at in indices]
-    _check_all_small(questions)
+    check_all_small(questions)
     return tuple([at for at in indices if _follows(questions[at])])
 
 
@@ -109,12 +109,6 @@ def _check_compared(frame, claims, given):
     check_claims(frame, given, MAX_BESIDE)
 
 
-def _check_all_small(questions):
-    """Refuses the first question that has too many members, or too great a few."""
-    for question in questions:
-        check_small(question)
-
-
 def _follows(question):
     """Whether the question follows."""
     return decided(question)[0] == "follows"
@@ -127,7 +121,7 @@ def _parting(frame, one, other, given):
     check_claim(frame, other)
     check_claims(frame, given, MAX_BESIDE)
     questions = (Question(frame, (*given, one), other), Question(frame, (*given, other), one))
-    _check_all_small(questions)
+    check_all_small(questions)
     for question in questions:
         word, shown = decided(question)
         if word == "broken":
@@ -138,10 +132,23 @@ def _parting(frame, one, other, given):
 def _implications(frame, claims, given):
     """All pairs of indices of which the second claim follows from the first one and the given ones."""
     indices = range(len(claims))
+    beside = Question(frame, given, claims[0])
     pairs = [(one, other) for one in indices for other in indices if one != other]
-    questions = [Question(frame, (*given, claims[one]), claims[other]) for one, other in pairs]
-    _check_all_small(questions)
-    return tuple([pair for pair, question in zip(pairs, questions) if _follows(question)])
+    with_one = [beside.with_given(claim) for claim in claims]
+    questions = [with_one[one].wanting(claims[other]) for one, other in pairs]
+    check_all_small(questions)
+    found = []
+    # Which claims are true in situations that were found. One of these often breaks other questions, too.
+    shown = []
+    for (one, other), question in zip(pairs, questions):
+        if any([truth[one] and not truth[other] for truth in shown]):
+            continue
+        word, told = decided(question)
+        if word == "follows":
+            found.append((one, other))
+        else:
+            shown.append([told.knows(claim) for claim in claims])
+    return tuple(found)
 
 
 def _classes(many, pairs):

@@ -46,70 +46,83 @@ class Asker:
 
     def __init__(self, frame):
         check_frame(frame)
-        self._frame = frame
-        self._known = ()
+        # The question whether no situation has all known claims.
+        self._question = Question(frame, (), NEVER)
+        # Some situation that has them all. It spares searches, and no answer depends on which one it is.
+        self._shown = None
 
     @property
     def known(self):
         """The tuple of the known claims."""
-        return self._known
+        return self._question.claims
 
     def tell(self, claim):
         """Makes a claim known, unless no situation has it beside the known ones."""
-        check_claim(self._frame, claim)
+        check_claim(self._question.frame, claim)
         # What is asked of the known claims needs room for one more.
-        if len(self._known) == MAX_GIVEN - 1:
+        if len(self._question) == MAX_GIVEN - 1:
             raise InvalidOperation("as many claims are known as can be")
-        word, shown = paper(self._with(claim))
-        if word == "follows":
-            raise Refused(shown)
-        self._known = (*self._known, claim)
+        question = self._question.with_given(claim)
+        check_small(question)
+        if not self._is_shown(claim):
+            word, shown = decided(question)
+            if word == "follows":
+                raise Refused(shown)
+            self._shown = shown
+        self._question = question
         return True
 
     def ask(self, claim):
         """Whether the claim follows from what is known, or its not does."""
-        check_claim(self._frame, claim)
-        if follows(Question(self._frame, self._known, claim)):
+        check_claim(self._question.frame, claim)
+        is_shown = self._is_shown(claim)
+        question = self._question.wanting(claim)
+        check_small(question)
+        if (self._shown is None or is_shown) and decided(question)[0] == "follows":
             return "yes"
         # The not of the claim could be too deep for a claim; it follows exactly if nothing has the claim, too, and
         # both questions have the same members and the same few.
-        return "no" if follows(self._with(claim)) else "open"
+        question = self._question.with_given(claim)
+        check_small(question)
+        return "no" if not is_shown and decided(question)[0] == "follows" else "open"
 
     def why(self, claim):
         """The paper of the question whether the claim follows from what is known."""
-        check_claim(self._frame, claim)
-        return paper(Question(self._frame, self._known, claim))
+        check_claim(self._question.frame, claim)
+        return paper(self._question.wanting(claim))
 
     def example(self):
         """A situation with all known claims."""
-        return breaking(Question(self._frame, self._known, NEVER))
+        return breaking(self._question)
 
     def undo(self, *, many=1):
         """Makes the last claims unknown and returns them, the last one first."""
-        check_undo(many, len(self._known))
-        kept = len(self._known) - many
-        taken = self._known[kept:]
-        self._known = self._known[:kept]
-        return taken[::-1]
+        check_undo(many, len(self._question))
+        taken = []
+        for _ in range(many):
+            taken.append(self._question.claims[-1])
+            self._question = self._question.without(len(self._question) - 1)
+        return tuple(taken)
 
     def twin(self):
         """An equal asker that goes on by itself."""
-        other = Asker(self._frame)
-        other._known = self._known
+        other = Asker(self._question.frame)
+        other._question = self._question
+        other._shown = self._shown
         return other
 
-    def _with(self, claim):
-        """The question whether no situation has the known claims and this one."""
-        return Question(self._frame, (*self._known, claim), NEVER)
+    def _is_shown(self, claim):
+        """Whether a situation is at hand that has the claim beside the known ones."""
+        return self._shown is not None and self._shown.knows(claim)
 
     def __contains__(self, value):
-        return is_claim(self._frame, value) and value in self._known
+        return is_claim(self._question.frame, value) and value in self._question.claims
 
     def __len__(self):
-        return len(self._known)
+        return len(self._question.claims)
 
     def __eq__(self, other):
-        return isinstance(other, Asker) and self._frame == other._frame and self._known == other._known
+        return isinstance(other, Asker) and self._question == other._question
 
     def __str__(self):
-        return f"asker with {len(self._known)} claims"
+        return f"asker with {len(self._question.claims)} claims"

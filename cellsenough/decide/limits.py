@@ -12,3 +12,9 @@ def check_small(question):
         raise TooMany(MAX_MEMBERS)
     if question.few > MAX_FEW:
         raise TooMany(MAX_FEW)
+
+
+def check_all_small(questions):
+    """Refuses the first question that has too many members, or too great a few."""
+    for question in questions:
+        check_small(question)

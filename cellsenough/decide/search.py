@@ -17,16 +17,16 @@ from cellsenough.world.truth import is_true
 
 def decided(question):
     """("broken", situation) with a situation of few cells, or ("follows", tree)."""
-    search = _Search(question)
+    search = Search(question)
     proof = None
     while search.found is None and search.closed is None:
         proof = search.advance() if proof is None else search.retreat(proof)
     if search.found is not None:
-        return ("broken", question.small(search.found))
+        return ("broken", question.shrunk(search.found))
     return ("follows", tree_of(search.closed, len(question.facts)))
 
 
-class _Search:
+class Search:
     """A search, which ends with a situation or a proof."""
 
     def __init__(self, question):

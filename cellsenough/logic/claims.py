@@ -105,7 +105,7 @@ def all_between(frame, low, high, op, one, other):
     _check_position_term(frame, high)
     if op not in OPS:
         raise InvalidOperation("this is none of the signs")
-    own = _own_names_for(frame, ("k",), 1)
+    own = own_names_for(frame, ("k",), 1)
     if not is_body_term(frame, own, one) or not is_body_term(frame, own, other):
         raise InvalidTerm("this is no value term in which the own name can stand so")
     place = (own[0], 0)
@@ -119,7 +119,7 @@ def in_order(frame, array, low, high):
     frame.length_of(array)
     _check_position_term(frame, low)
     _check_position_term(frame, high)
-    own = _own_names_for(frame, ("j", "k"), 2)
+    own = own_names_for(frame, ("j", "k"), 2)
     one, other = (own[0], 0), (own[1], 0)
     guard = ("and", (("pos", "<=", low, one), ("pos", "<=", one, other), ("pos", "<=", other, high)))
     return ("all", own, guard, ("val", "<=", (array, *one, 0), (array, *other, 0)))
@@ -131,6 +131,15 @@ def renamed_claim(frame, claim, names):
     check_claim(frame, claim)
     target = frame.renamed(names)
     return rebuilt(claim, lambda part: _renamed_part(target, part, names))
+
+
+def own_names_for(frame, letters, many, taken=()):
+    """The first fresh names of the letters, the letters twice, and so on, that are not taken."""
+    told = [letter * times for times in range(1, LONGEST_NAME + 1) for letter in letters]
+    free = [name for name in told if frame.is_fresh(name) and name not in taken]
+    if len(free) < many:
+        raise InvalidOperation("no fresh name is left")
+    return tuple(free[:many])
 
 
 def _check_own_of_all(frame, own):
@@ -181,21 +190,12 @@ def _is_replaced_by(frame, name, term):
     return name in frame.amounts and frame.is_value_term(term)
 
 
-def _own_names_for(frame, letters, many, taken=()):
-    """The first fresh names of the letters, the letters twice, and so on, that are not taken."""
-    told = [letter * times for times in range(1, LONGEST_NAME + 1) for letter in letters]
-    free = [name for name in told if frame.is_fresh(name) and name not in taken]
-    if len(free) < many:
-        raise InvalidOperation("no fresh name is left")
-    return tuple(free[:many])
-
-
 def _renamed_part(frame, part, names):
     """An atom or an all with its names replaced, and own names that would not be fresh for the renamed frame."""
     terms = {name: (names[name], 0) for name in names}
     own = list(part[1]) if part[0] == "all" else []
     for at, name in enumerate(list(own)):
         if not frame.is_fresh(name):
-            own[at] = _own_names_for(frame, ("k",), 1, tuple(own))[0]
+            own[at] = own_names_for(frame, ("k",), 1, tuple(own))[0]
             terms[name] = (own[at], 0)
     return with_terms(part, terms, names)

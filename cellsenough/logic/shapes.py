@@ -17,13 +17,10 @@ def is_right(frame, role, own, value, most):
         depth += 1
         if most is not None and depth > most:
             return False
-        below = []
-        for part_role, part_own, part in level:
-            needed = _needed_parts(frame, part_role, part_own, part)
-            if needed is None:
-                return False
-            below.extend(needed)
-        level = below
+        needed = [_needed_parts(frame, part_role, part_own, part) for part_role, part_own, part in level]
+        if None in needed:
+            return False
+        level = [told for parts in needed for told in parts]
     return True
 
 
@@ -48,7 +45,7 @@ def check_claims(frame, claims, most):
 
 def is_body_term(frame, own, value):
     """Whether the value is a value term that reads no neighbour of an own name."""
-    if not frame.is_value_term(value, own=own):
+    if not frame.has_amount(value, own):
         return False
     return len(value) == 2 or value[1] not in own or value[2] == 0
 
@@ -91,12 +88,12 @@ def _is_atom(frame, role, own, value):
         return False
     if word == "val":
         return is_body_term(frame, own, one) and is_body_term(frame, own, other)
-    return role == "claim" and word == "pos" and frame.is_position_term(one) and frame.is_position_term(other)
+    return role == "claim" and word == "pos" and frame.has_place(one, ()) and frame.has_place(other, ())
 
 
 def _is_guard_pair(frame, own, one, other):
     """Whether these are position terms, at least one an own name, and each own name has the number 0."""
-    if not frame.is_position_term(one, own=own) or not frame.is_position_term(other, own=own):
+    if not frame.has_place(one, own) or not frame.has_place(other, own):
         return False
     held = [term for term in (one, other) if term[0] in own]
     return len(held) > 0 and all([term[1] == 0 for term in held])

@@ -17,31 +17,27 @@ def signed_parts(claim, sign):
     return [(claim, sign)]
 
 
-def negative_alls(signed_claims):
-    """A list of the negative alls in claims with their signs, in the order in which they stand."""
-    parts = [found for claim, sign in signed_claims for found in signed_parts(claim, sign)]
-    return [part for part, sign in parts if part[0] == "all" and not sign]
+def needs_of(claim, sign):
+    """What a claim with a sign brings to a question: a list of member terms, but for new positions; a list of its
+    negative alls, in the order in which they stand; and its greatest number.
+    """
+    terms = []
+    negative = []
+    for part, part_sign in signed_parts(claim, sign):
+        terms.extend(_terms_of_part(part, part_sign))
+        if part[0] == "all" and not part_sign:
+            negative.append(part)
+    return terms, negative, _greatest_number(claim)
 
 
-def member_terms(frame, signed_claims):
-    """The members that the claims have, but for new positions, as keys of a dict."""
+def member_terms(frame, needs):
+    """The members of a question whose claims have these needs, but for new positions, as keys of a dict."""
     found = {("", -1): True, ("", 0): True}
     for length in frame.lengths:
         found[(length, 0)] = True
-    for claim, sign in signed_claims:
-        for part, part_sign in signed_parts(claim, sign):
-            for term in _terms_of_part(part, part_sign):
-                found[term] = True
-    return found
-
-
-def greatest_number(claims):
-    """The greatest number of all position terms in the claims, without its sign, and at least 1."""
-    found = 1
-    for claim in claims:
-        for part in all_parts(claim):
-            for term in _position_terms(part):
-                found = max(found, abs(term[1]))
+    for terms, _, _ in needs:
+        for term in terms:
+            found[term] = True
     return found
 
 
@@ -80,6 +76,11 @@ def _terms_of_part(part, sign):
     if part[0] == "all" and sign:
         found.extend(terms_in(part[2]))
     return [term for term in found if term[0] not in own]
+
+
+def _greatest_number(claim):
+    """The greatest number of all position terms in the claim, without its sign, and at least 1."""
+    return max([1, *[abs(term[1]) for part in all_parts(claim) for term in _position_terms(part)]])
 
 
 def _position_terms(part):

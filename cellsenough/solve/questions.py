@@ -5,7 +5,7 @@ from cellsenough.base.frames import check_frame
 from cellsenough.errors import InvalidOperation, InvalidQuestion, InvalidSituation
 from cellsenough.logic.claims import is_claim, renamed_claim
 from cellsenough.logic.shapes import are_claims, check_claim
-from cellsenough.solve.members import greatest_number, laid_rows, member_terms, negative_alls, squeezed
+from cellsenough.solve.members import laid_rows, member_terms, needs_of, squeezed
 from cellsenough.world.situations import Situation, made_situation
 
 MAX_GIVEN = 40
@@ -18,6 +18,13 @@ def check_question(question):
         raise InvalidQuestion("this is no question")
 
 
+def made_question(frame, given, wanted, needs):
+    """The question with these claims, which are right ones, where `needs` are those of the given claims, in order."""
+    blank = Question(frame, (), ("and", ()))
+    blank._take(given, wanted, needs)
+    return blank
+
+
 class Question:
     """Given claims, and a wanted one, which follows or does not."""
 
@@ -26,16 +33,21 @@ class Question:
         if not are_claims(frame, given, MAX_GIVEN) or not is_claim(frame, wanted):
             raise InvalidQuestion("these are not at most forty given claims and a wanted one")
         self._frame = frame
+        self._take(given, wanted, [needs_of(claim, True) for claim in given])
+
+    def _take(self, given, wanted, needs):
+        """Takes right claims, with the needs of the given ones."""
         self._claims = given
         self._goal = wanted
-        signed = [(claim, True) for claim in given] + [(wanted, False)]
-        self._negative = negative_alls(signed)
+        self._needs = needs
+        every = [*needs, needs_of(wanted, False)]
+        self._negative = [claim for _, negative, _ in every for claim in negative]
         many = sum([len(claim[1]) for claim in self._negative])
         self._fresh = tuple([f"*{number + 1}" for number in range(many)])
-        terms = member_terms(frame, signed)
+        terms = member_terms(self._frame, every)
         self._members = tuple(sorted([*terms, *[(name, 0) for name in self._fresh]]))
-        self._widest = 2 * greatest_number([*given, wanted]) + 1
-        self._few = (len(frame.positions) + len(frame.lengths) + many) * self._widest
+        self._widest = 2 * max([greatest for _, _, greatest in every]) + 1
+        self._few = (len(self._frame.positions) + len(self._frame.lengths) + many) * self._widest
 
     @property
     def frame(self):
@@ -85,6 +97,10 @@ class Question:
     def new_numbers(self, situation):
         """The integers for the new positions in a situation."""
         self._check_situation(situation)
+        return self._new_numbers(situation)
+
+    def _new_numbers(self, situation):
+        """The same as `new_numbers`, for a situation that is a right one."""
         found = []
         for claim in self._negative:
             failing = situation.first_failing(claim)
@@ -103,6 +119,10 @@ class Question:
         self._check_situation(situation)
         if not self.is_broken_by(situation):
             raise InvalidOperation("this does not break the question")
+        return self.shrunk(situation)
+
+    def shrunk(self, situation):
+        """The same as `small`, for a situation that surely breaks it."""
         old = self._numbers_in(situation)
         # Terms differ by less than the widest gap, so they stay in their order, and equal if they were.
         new = squeezed(old, self._widest)
@@ -115,17 +135,18 @@ class Question:
         check_claim(self._frame, claim)
         if len(self._claims) == MAX_GIVEN:
             raise InvalidOperation("there are forty given claims already")
-        return Question(self._frame, (*self._claims, claim), self._goal)
+        return made_question(self._frame, (*self._claims, claim), self._goal, [*self._needs, needs_of(claim, True)])
 
     def without(self, index):
         """The question without a given claim."""
         check_index(index, len(self._claims))
-        return Question(self._frame, self._claims[:index] + self._claims[index + 1:], self._goal)
+        kept = self._needs[:index] + self._needs[index + 1:]
+        return made_question(self._frame, self._claims[:index] + self._claims[index + 1:], self._goal, kept)
 
     def wanting(self, claim):
         """The question with another wanted claim."""
         check_claim(self._frame, claim)
-        return Question(self._frame, self._claims, claim)
+        return made_question(self._frame, self._claims, claim, self._needs)
 
     def renamed(self, names):
         """The question with other names."""
@@ -140,7 +161,7 @@ class Question:
 
     def _numbers_in(self, situation):
         """The integers of all positions, lengths and new positions, and of ""."""
-        new = dict(zip(self._fresh, self.new_numbers(situation)))
+        new = dict(zip(self._fresh, self._new_numbers(situation)))
         return {"": 0, **situation.positions, **situation.lengths, **new}
 
     def __len__(self):

@@ -51,7 +51,7 @@ def first_with(frame, claims, cells, low, high):
     check_frame(frame)
     check_claims(frame, claims, None)
     _check_listed(frame, cells, low, high)
-    return _first(frame, _Judge(frame, claims, ()), cells, low, high)
+    return _first(frame, Judge(frame, claims, ()), cells, low, high)
 
 
 def count_with(frame, claims, cells, low, high):
@@ -59,7 +59,7 @@ def count_with(frame, claims, cells, low, high):
     check_frame(frame)
     check_claims(frame, claims, None)
     _check_listed(frame, cells, low, high)
-    judge = _Judge(frame, claims, ())
+    judge = Judge(frame, claims, ())
     return len([True for rows, numbers in _spanned(frame, cells, low, high) if judge.takes(rows, numbers)])
 
 
@@ -69,10 +69,10 @@ def first_breaking(frame, given, wanted, cells, low, high):
     check_claims(frame, given, None)
     check_claim(frame, wanted)
     _check_listed(frame, cells, low, high)
-    return _first(frame, _Judge(frame, given, (wanted,)), cells, low, high)
+    return _first(frame, Judge(frame, given, (wanted,)), cells, low, high)
 
 
-class _Judge:
+class Judge:
     """Tells whether some claims are true and some others are false, and remembers what it has worked out.
 
     A claim is as true or false as it was when all that stands in it is the same, whatever the other names are.

@@ -1,6 +1,6 @@
 """Situations: rows for the arrays of a frame, and integers for its positions and values."""
 
-from cellsenough.base.frames import check_frame
+from cellsenough.base.frames import Frame, check_frame
 from cellsenough.base.integers import are_integers, is_integer
 from cellsenough.errors import InvalidNumber, InvalidOperation, InvalidSituation, InvalidTerm, UnknownName
 from cellsenough.logic.shapes import check_claim
@@ -45,9 +45,8 @@ def _numbers_text(names, table):
 
 def made_situation(frame, rows, positions, values):
     """The situation with these rows and integers, which are right ones, but can have more digits than passed ones."""
-    blank = Situation(frame, {array: () for array, _ in frame.arrays}, {name: 0 for name in frame.positions},
-                      {name: 0 for name in frame.amounts})
-    blank._take(rows, positions, values)
+    blank = Situation(Frame((), (), ()), {}, {}, {})
+    blank._take(frame, rows, positions, values)
     return blank
 
 
@@ -60,15 +59,15 @@ class Situation:
             raise InvalidSituation("these are no rows for all arrays")
         if not _are_numbers(frame.positions, positions) or not _are_numbers(frame.amounts, values):
             raise InvalidSituation("these are no integers for all positions and values")
-        self._frame = frame
-        self._take(rows, positions, values)
+        self._take(frame, rows, positions, values)
 
-    def _take(self, rows, positions, values):
+    def _take(self, frame, rows, positions, values):
         """Takes right rows, and integers of any length, for all names."""
+        self._frame = frame
         self._rows = _ascending(rows)
         self._positions = _ascending(positions)
         self._amounts = _ascending(values)
-        self._lengths = _ascending({length: len(rows[array]) for array, length in self._frame.arrays})
+        self._lengths = _ascending({length: len(rows[array]) for array, length in frame.arrays})
         self._numbers = {"": 0, **self._lengths, **self._positions, **self._amounts}
 
     @property

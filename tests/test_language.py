@@ -36,6 +36,7 @@ def bound_in(tree):
     """All names that a file binds anywhere, builtins excluded."""
     names = {node.id for node in ast.walk(tree) if isinstance(node, ast.Name) and isinstance(node.ctx, ast.Store)}
     names |= {node.arg for node in ast.walk(tree) if isinstance(node, ast.arg)}
+    names |= {node.name for node in ast.walk(tree) if isinstance(node, ast.ExceptHandler) and node.name}
     names |= {node.name for node in ast.walk(tree) if isinstance(node, (ast.FunctionDef, ast.ClassDef))}
     for node in ast.walk(tree):
         if isinstance(node, ast.ImportFrom):
@@ -175,6 +176,16 @@ class Language(unittest.TestCase):
                 loop = next(node for node in ast.walk(function) if isinstance(node, ast.For))
                 self.assertIs(bool(names_alike(function, names_walked(loop.iter)) & names_changed(loop)), is_wrong)
 
+    def test_only_own_errors_are_caught(self):
+        own = {node.name for node in ast.parse(text_of(os.path.join(PACKAGE, "errors.py"))).body if isinstance(node, ast.ClassDef)}
+        for path, tree in self.each():
+            for node in ast.walk(tree):
+                if isinstance(node, ast.Try):
+                    self.assertEqual(node.finalbody, [])
+                if isinstance(node, ast.ExceptHandler):
+                    named = node.type.elts if isinstance(node.type, ast.Tuple) else [node.type]
+                    self.assertLessEqual({part.id for part in named}, own)
+
     def test_methods(self):
         own = set()
         for path in files():
@@ -187,7 +198,7 @@ class Language(unittest.TestCase):
                     self.assertTrue(node.func.attr in own or node.func.attr in METHODS, node.func.attr)
 
     def test_statements_and_expressions(self):
-        barred = (ast.GeneratorExp, ast.AsyncFunctionDef, ast.Await, ast.Global, ast.Try, ast.Div)
+        barred = (ast.GeneratorExp, ast.AsyncFunctionDef, ast.Await, ast.Global, ast.Div)
         for path, tree in self.each():
             for node in ast.walk(tree):
                 self.assertNotIsInstance(node, barred)

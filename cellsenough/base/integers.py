@@ -12,3 +12,10 @@ def is_integer(value):
 def are_integers(value):
     """Whether the value is a tuple of such integers."""
     return isinstance(value, tuple) and all([is_integer(part) for part in value])
+
+
+def are_ascending(value, many):
+    """Whether the value is an ascending tuple of indices of so many things."""
+    if not are_integers(value) or not all([0 <= at < many for at in value]):
+        return False
+    return all([before < at for before, at in zip(value, value[1:])])

@@ -3,7 +3,22 @@
 from cellsenough.base.integers import is_integer
 from cellsenough.errors import InvalidOperation
 from cellsenough.logic.claims import own_names_for
-from cellsenough.logic.parts import place_with, term_with, terms_in, with_terms
+from cellsenough.logic.parts import all_parts, place_with, term_with, terms_in, with_terms
+
+LETTERS = "abcdefghijklmnopqrstuvwxyz"
+
+
+def version_names(frame, claims, many):
+    """A list of so many names for versions of arrays, none of them an own name of the claims."""
+    own = {name: True for claim in claims for part in all_parts(claim) if part[0] == "all" for name in part[1]}
+    told = [f"w{end}" for end in LETTERS]
+    free = [name for name in told if name not in frame and name not in own]
+    if len(free) < many:
+        longer = [f"{name}{end}" for name in told for end in LETTERS]
+        free.extend([name for name in longer if name not in frame and name not in own])
+    if len(free) < many:
+        raise InvalidOperation("no name for a version is left")
+    return free[:many]
 
 
 def asked_in(claim, ahead):

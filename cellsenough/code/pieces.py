@@ -1,7 +1,7 @@
 """Pieces of outlines: from a loop, or the beginning, to the next loop, or the end."""
 
 from cellsenough.base.frames import MAX_ARRAYS
-from cellsenough.code.courses import Course
+from cellsenough.code.courses import Course, version_names
 from cellsenough.code.program import check_outline
 from cellsenough.code.steps import effect_of, with_effect
 from cellsenough.code.walks import walk_sizes, walks
@@ -9,14 +9,12 @@ from cellsenough.decide.limits import check_all_small
 from cellsenough.decide.search import decided
 from cellsenough.errors import InvalidOperation, InvalidSituation, TooMany
 from cellsenough.logic.claims import inside_claim
-from cellsenough.logic.parts import all_parts
 from cellsenough.solve.members import needs_of
 from cellsenough.solve.questions import MAX_GIVEN, made_question
 from cellsenough.world.situations import Situation, made_situation
 
 MAX_PIECES = 64
 MAX_WRITES = 6
-LETTERS = "abcdefghijklmnopqrstuvwxyz"
 
 
 def pieces(outline):
@@ -30,7 +28,8 @@ def pieces(outline):
         raise TooMany(MAX_WRITES)
     if sum([ways for ways, _ in sizes]) > MAX_PIECES:
         raise TooMany(MAX_PIECES)
-    versions = _versions(outline, most)
+    claims = [*outline.before, *outline.after, *[claim for notes in outline.notes for claim in notes]]
+    versions = version_names(outline.frame, claims, most)
     return tuple([Piece(outline, walk, versions) for walk in walks(outline.program)])
 
 
@@ -123,6 +122,11 @@ class Piece:
             found.append((("goal", index), made_question(self._frame, self._facts, wanted, needs)))
         return tuple(found)
 
+    def goal_questions(self):
+        """The tuple of its questions about goals."""
+        needs = [needs_of(fact, True) for fact in self._facts]
+        return tuple([made_question(self._frame, self._facts, wanted, needs) for wanted in self._wanted])
+
     def is_right(self):
         """Whether all its questions follow."""
         told = [question for _, question in self.questions()]
@@ -177,14 +181,3 @@ class Piece:
         start = "start" if self._start < 0 else str(self._start)
         stop = "end" if self._stop < 0 else str(self._stop)
         return f"piece from {start} to {stop}: {len(self._trail)} rows"
-
-
-def _versions(outline, many):
-    """So many names for versions of arrays."""
-    claims = [*outline.before, *outline.after, *[claim for notes in outline.notes for claim in notes]]
-    own = {name: True for claim in claims for part in all_parts(claim) if part[0] == "all" for name in part[1]}
-    ends = [*LETTERS, *[one + other for one in LETTERS for other in LETTERS]]
-    free = [f"w{end}" for end in ends if outline.frame.is_fresh(f"w{end}") and f"w{end}" not in own]
-    if len(free) < many:
-        raise InvalidOperation("no name for a version is left")
-    return free[:many]

@@ -67,8 +67,11 @@ class Bounds:
 
     def _spread(self, one, other, number, tag):
         """Takes over a tighter bound into all bounds that it makes tighter."""
+        # Where the bound by the other point does not get tighter, no bound behind it does; likewise for targets.
         sources = [(point, *self._rows[point][one]) for point in self._into[one]]
+        sources = [told for told in sources if self._is_tighter(told[0], other, told[1] + number)]
         targets = [(point, *self._rows[other][point]) for point in self._rows[other]]
+        targets = [told for told in targets if self._is_tighter(one, told[0], number + told[1])]
         for source, first, why in sources:
             row = self._rows[source]
             for target, second, why_behind in targets:
@@ -78,6 +81,11 @@ class Bounds:
                     row[target] = (total, (why, tag, why_behind))
                     self._into[target][source] = True
                     self._log.append((source, target, before))
+
+    def _is_tighter(self, one, other, number):
+        """Whether the number is less than the bound of two points."""
+        known = self._rows[one].get(other)
+        return known is None or number < known[0]
 
 
 def _tags_of(why):

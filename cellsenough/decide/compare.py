@@ -1,8 +1,9 @@
 """Claims beside each other: which follow from others, and which are not needed."""
 
 from cellsenough.base.frames import check_frame
-from cellsenough.base.integers import are_integers
+from cellsenough.base.integers import are_ascending
 from cellsenough.decide.limits import check_all_small, check_small
+from cellsenough.decide.pairs import truths_of
 from cellsenough.decide.search import decided
 from cellsenough.errors import InvalidClaim, InvalidOperation
 from cellsenough.logic.shapes import check_claim, check_claims
@@ -92,7 +93,7 @@ def is_core_paper(question, value):
     if not isinstance(value, tuple) or len(value) != 3:
         return False
     indices, tree, shown = value
-    if not _are_ascending(indices, len(question)) or not isinstance(shown, tuple):
+    if not are_ascending(indices, len(question)) or not isinstance(shown, tuple):
         return False
     alone = _with_only(question, indices)
     if len(shown) != len(indices) or not is_tree(alone, tree):
@@ -133,22 +134,12 @@ def _implications(frame, claims, given):
     """All pairs of indices of which the second claim follows from the first one and the given ones."""
     indices = range(len(claims))
     beside = Question(frame, given, claims[0])
-    pairs = [(one, other) for one in indices for other in indices if one != other]
     with_one = [beside.with_given(claim) for claim in claims]
-    questions = [with_one[one].wanting(claims[other]) for one, other in pairs]
-    check_all_small(questions)
-    found = []
-    # Which claims are true in situations that were found. One of these often breaks other questions, too.
-    shown = []
-    for (one, other), question in zip(pairs, questions):
-        if any([truth[one] and not truth[other] for truth in shown]):
-            continue
-        word, told = decided(question)
-        if word == "follows":
-            found.append((one, other))
-        else:
-            shown.append([told.knows(claim) for claim in claims])
-    return tuple(found)
+    pairs = [(one, other) for one in indices for other in indices if one != other]
+    questions = {(one, other): with_one[one].wanting(claims[other]) for one, other in pairs}
+    check_all_small([questions[pair] for pair in pairs])
+    truths = truths_of(questions, dict(enumerate(claims)), {})
+    return tuple([pair for pair in pairs if truths[pair]])
 
 
 def _classes(many, pairs):
@@ -180,10 +171,3 @@ def _core(question):
 def _with_only(question, indices):
     """The question with these given claims alone."""
     return Question(question.frame, tuple([question.claims[at] for at in indices]), question.goal)
-
-
-def _are_ascending(value, many):
-    """Whether the value is an ascending tuple of indices of so many things."""
-    if not are_integers(value) or not all([0 <= at < many for at in value]):
-        return False
-    return all([before < at for before, at in zip(value, value[1:])])

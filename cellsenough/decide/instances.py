@@ -12,7 +12,8 @@ def failing_terms(branch, members, fact, rows, numbers):
     Where the all is false at terms at which its cells are read already, the ones that leave fewest cases are told.
     """
     claim = branch.claim_of(fact)
-    if first_failure(rows, numbers, claim) is None:
+    failing = first_failure(rows, numbers, claim)
+    if failing is None:
         return None
     best = None
     for terms in _pairs(_read_terms(branch, claim, numbers), len(claim[1])):
@@ -22,7 +23,7 @@ def failing_terms(branch, members, fact, rows, numbers):
                 best = (many, terms)
     if best is not None:
         return best[1]
-    terms = tuple([_member_at(members, numbers, place) for place in first_failure(rows, numbers, claim)])
+    terms = tuple([_member_at(members, numbers, place) for place in failing])
     return terms if branch.seen(("at", fact, terms)) is None else None
 
 

@@ -41,6 +41,15 @@ def member_terms(frame, needs):
     return found
 
 
+def position_terms(part):
+    """The position terms that stand in an atom, those of cells included; none for another part."""
+    if part[0] == "pos":
+        return part[2:]
+    if part[0] == "val":
+        return [term[1:3] for term in part[2:] if len(term) == 4]
+    return []
+
+
 def squeezed(numbers, widest):
     """The numbers of names, closer together: gaps between neighbours are at most so wide, and "" stays at 0."""
     places = sorted(set(list(numbers.values())))
@@ -80,13 +89,4 @@ def _terms_of_part(part, sign):
 
 def _greatest_number(claim):
     """The greatest number of all position terms in the claim, without its sign, and at least 1."""
-    return max([1, *[abs(term[1]) for part in all_parts(claim) for term in _position_terms(part)]])
-
-
-def _position_terms(part):
-    """The position terms that stand in an atom, those of cells included; none for another part."""
-    if part[0] == "pos":
-        return part[2:]
-    if part[0] == "val":
-        return [term[1:3] for term in part[2:] if len(term) == 4]
-    return []
+    return max([1, *[abs(term[1]) for part in all_parts(claim) for term in position_terms(part)]])

@@ -13,6 +13,16 @@ def is_tree(question, value):
     return _is_tree(question, value)
 
 
+def are_trees_of(questions, value):
+    """Whether the value is a tuple of trees of these questions, in their order."""
+    if not isinstance(value, tuple) or len(value) != len(questions):
+        return False
+    for question, tree in zip(questions, value):
+        if not _is_tree(question, tree):
+            return False
+    return True
+
+
 def facts_at(question, tree, node):
     """The tuple of the facts known at a node."""
     check_question(question)

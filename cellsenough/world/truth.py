@@ -82,4 +82,5 @@ def _places_to_look(rows, numbers, claim):
 
 def _changes(row):
     """The places that read another number than the place ahead of them."""
-    return [place for place in range(len(row) + 1) if cell_at(row, place) != cell_at(row, place - 1)]
+    # Outside of the row 0 is read.
+    return [place for place, (before, cell) in enumerate(zip((0, *row), (*row, 0))) if before != cell]

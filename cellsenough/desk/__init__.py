@@ -1,0 +1,1 @@
+"""Desks, on which facts, claims with names and pins about them lie."""

@@ -1,0 +1,1 @@
+"""Which notes of outlines are kept, and which runs end."""

@@ -1,0 +1,1 @@
+"""Claims and rows as texts, and a shell that is told commands as texts."""

@@ -37,6 +37,26 @@ FUNCTIONS = {
         "core_paper": "(question)", "is_core_paper": "(question, value)",
     },
     "cellsenough.code.program": {"is_rows": "(frame, value)"},
+    "cellsenough.code.pieces": {"pieces": "(outline)"},
+    "cellsenough.keep.notes": {
+        "is_kept": "(outline)", "broken_questions": "(outline)", "kept_paper": "(outline)",
+        "is_kept_paper": "(outline, value)", "reached_break": "(outline, situations, *, most=100)",
+    },
+    "cellsenough.keep.greatest": {
+        "greatest_choice": "(program, candidates, *, before=())", "ranks": "(program, candidates, *, before=())",
+        "is_carried": "(program, candidates, value, *, before=())", "choice_paper": "(program, candidates, *, before=())",
+        "is_choice_paper": "(program, candidates, value, *, before=())",
+        "best_outline": "(program, candidates, *, before=(), after=())",
+    },
+    "cellsenough.keep.ends": {"does_end": "(outline, measures)", "end_faults": "(outline, measures)"},
+    "cellsenough.keep.changes": {
+        "do_work_alike": "(frame, one, other, given=())", "parting_rows": "(frame, one, other, given=())",
+        "do_commute": "(frame, one, other, given=())", "unrolled": "(outline, loop)",
+    },
+    "cellsenough.text.texts": {
+        "write_claim": "(frame, claim)", "write_rows": "(program)", "read_claim": "(frame, text)",
+        "read_rows": "(frame, text)",
+    },
     "cellsenough.code.runs": {
         "outcome": "(program, situation, *, most=100)", "first_break": "(outline, situation, *, most=100)",
     },
@@ -45,6 +65,8 @@ CONSTANTS = {
     "cellsenough.world.listing": {"MAX_LISTED": 200000},
     "cellsenough.solve.rings": {"MAX_DIFFERENCES": 60},
     "cellsenough.solve.questions": {"MAX_GIVEN": 40, "MAX_MEMBERS": 16},
+    "cellsenough.code.pieces": {"MAX_PIECES": 64, "MAX_WRITES": 6},
+    "cellsenough.desk.desk": {"MAX_CLAIMS": 8, "MAX_PINS": 8},
     "cellsenough.code.program": {"MAX_ROWS": 24, "MAX_LOOPS": 4, "MAX_INSIDE": 4, "MAX_NOTES": 8},
 }
 CLASSES = {
@@ -98,8 +120,26 @@ CLASSES = {
         "go_on": "(self, *, most=100)", "undo": "(self, *, many=1)", "twin": "(self)", "__len__": "(self)",
         "__eq__": "(self, other)", "__str__": "(self)",
     },
+    ("cellsenough.code.pieces", "Piece"): {
+        "questions": "(self)", "is_right": "(self)", "carried": "(self, situation)", "lifted": "(self, situation)",
+        "__eq__": "(self, other)", "__str__": "(self)",
+    },
+    ("cellsenough.desk.desk", "Desk"): {
+        "__init__": "(self, frame)", "enter": "(self, name, claim)", "remove": "(self, name)", "suppose": "(self, claim)",
+        "drop": "(self, index)", "pin": "(self, pin)", "unpin": "(self, pin)", "undo": "(self, *, many=1)",
+        "redo": "(self, *, many=1)", "follows": "(self, one, other)", "paper": "(self, one, other)",
+        "__getitem__": "(self, at)", "__contains__": "(self, value)", "__len__": "(self)", "__iter__": "(self)",
+        "twin": "(self)", "__eq__": "(self, other)", "__str__": "(self)",
+    },
+    ("cellsenough.text.shell", "Shell"): {
+        "__init__": "(self, frame)", "__call__": "(self, command)", "desk": "(self)", "__len__": "(self)",
+        "__str__": "(self)",
+    },
 }
 PROPERTIES = {
+    ("cellsenough.code.pieces", "Piece"): (
+        "outline", "start", "stop", "answers", "trail", "frame", "claims", "goals", "facts", "ends"),
+    ("cellsenough.desk.desk", "Desk"): ("frame", "facts", "claims", "pins"),
     ("cellsenough.base.frames", "Frame"): ("arrays", "positions", "amounts", "lengths"),
     ("cellsenough.world.situations", "Situation"): ("frame", "rows", "positions", "amounts", "lengths"),
     ("cellsenough.solve.rings", "System"): ("differences", "fitting"),

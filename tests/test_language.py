@@ -77,6 +77,15 @@ def names_changed(loop):
     return names
 
 
+def is_simple(node):
+    """Whether this can stand in a call behind a star."""
+    if isinstance(node, (ast.List, ast.Tuple)):
+        return all(is_simple(part) for part in node.elts)
+    if isinstance(node, ast.Starred):
+        return is_simple(node.value)
+    return isinstance(node.value if isinstance(node, ast.Attribute) else node, (ast.Name, ast.Constant))
+
+
 class Language(unittest.TestCase):
     def each(self):
         return [(path, ast.parse(text_of(path))) for path in files()]
@@ -175,6 +184,25 @@ class Language(unittest.TestCase):
                 function = ast.parse(told.replace("CALL", walked).format(row)).body[0]
                 loop = next(node for node in ast.walk(function) if isinstance(node, ast.For))
                 self.assertIs(bool(names_alike(function, names_walked(loop.iter)) & names_changed(loop)), is_wrong)
+
+    def test_what_stands_behind_a_star(self):
+        for path, tree in self.each():
+            for node in ast.walk(tree):
+                args = node.args if isinstance(node, ast.Call) else []
+                starred = [at for at, part in enumerate(args) if isinstance(part, ast.Starred)]
+                for part in args[starred[0]:] if starred else []:
+                    self.assertTrue(is_simple(part), f"{path}: {ast.unparse(node)}")
+
+    def test_no_two_files_import_from_each_other(self):
+        imported = {}
+        for path, tree in self.each():
+            name = os.path.relpath(path, ROOT)[:-3].replace(os.sep, ".")
+            imported[name] = {node.module for node in tree.body if isinstance(node, ast.ImportFrom)}
+        while imported:
+            ready = [name for name in imported if not imported[name] & set(imported)]
+            self.assertNotEqual(ready, [], imported)
+            for name in ready:
+                del imported[name]
 
     def test_only_own_errors_are_caught(self):
         own = {node.name for node in ast.parse(text_of(os.path.join(PACKAGE, "errors.py"))).body if isinstance(node, ast.ClassDef)}

@@ -2,7 +2,6 @@
 
 from cellsenough.base.integers import is_integer
 from cellsenough.errors import InvalidOperation
-from cellsenough.logic.claims import own_names_for
 from cellsenough.logic.parts import all_parts, place_with, term_with, terms_in, with_terms
 
 LETTERS = "abcdefghijklmnopqrstuvwxyz"
@@ -41,8 +40,9 @@ def asked_in(claim, ahead):
 class Course:
     """The rows of a way, taken one after the other: what they say, which cells they ask, and what they give."""
 
-    def __init__(self, frame, versions):
-        # The frame has all versions, which are the arrays behind the writes, in their order.
+    def __init__(self, frame, versions, own):
+        # The frame has all versions, which are the arrays behind the writes, in their order. `own` is the own name of
+        # what writes give.
         self.basis = frame
         # What positions and values were given last, and the newest versions of arrays.
         self.given = {}
@@ -51,6 +51,7 @@ class Course:
         # Tuples (number of the row, how much was said ahead of it, claims that are true if it is asked, cell).
         self.asked = []
         self._versions = list(versions)
+        self._own = own
 
     def term_at(self, term):
         """A term as it is here, in terms of the beginning."""
@@ -107,10 +108,9 @@ class Course:
         place = place_with(name, shift, self.given)
         low, high = _checked((place[0], place[1] - 1)), _checked((place[0], place[1] + 1))
         self.said.append(("val", "==", (after, *place, 0), self.term_at(term)))
-        own = own_names_for(self.basis, ("k",), 1)
-        here = (own[0], 0)
+        here = (self._own, 0)
         guard = ("or", (("pos", "<=", here, low), ("pos", "<=", high, here)))
-        self.said.append(("all", own, guard, ("val", "==", (after, *here, 0), (before, *here, 0))))
+        self.said.append(("all", (self._own,), guard, ("val", "==", (after, *here, 0), (before, *here, 0))))
         self.newest[array] = after
 
 

@@ -8,7 +8,7 @@ from cellsenough.code.walks import walk_sizes, walks
 from cellsenough.decide.limits import check_all_small
 from cellsenough.decide.search import decided
 from cellsenough.errors import InvalidOperation, InvalidSituation, TooMany
-from cellsenough.logic.claims import inside_claim
+from cellsenough.logic.claims import inside_claim, own_names_for
 from cellsenough.solve.members import needs_of
 from cellsenough.solve.questions import MAX_GIVEN, made_question
 from cellsenough.world.situations import Situation, made_situation
@@ -43,7 +43,8 @@ class Piece:
         written = [row[1] for row in rows if row[0] == "write"]
         more = [(version, outline.frame.length_of(array)) for version, array in zip(versions, written)]
         self._frame = outline.frame.with_names(arrays=tuple(more))
-        self._take(Course(self._frame, versions), rows)
+        own = own_names_for(self._frame, ("k",), 1)[0] if written else None
+        self._take(Course(self._frame, versions, own), rows)
 
     def _take(self, course, rows):
         """Takes what the rows come to on a new course."""

@@ -6,8 +6,9 @@ about one frame, with versions of arrays for the writes of both.
 
 from cellsenough.code.courses import Course, version_names
 from cellsenough.code.walks import walks
+from cellsenough.decide.branches import fresh_names
 from cellsenough.decide.search import decided
-from cellsenough.logic.claims import inside_claim, own_names_for
+from cellsenough.logic.claims import inside_claim
 from cellsenough.solve.members import needs_of
 from cellsenough.solve.questions import made_question
 
@@ -36,9 +37,9 @@ def parting_of(one, other, given, most_writes):
 class Side:
     """A way through rows, for a frame with versions, and what is true on it where no cell that it asks is outside."""
 
-    def __init__(self, frame, program, way, versions):
+    def __init__(self, frame, own, program, way, versions):
         _, _, answers, trail = way
-        self.course = Course(frame, versions)
+        self.course = Course(frame, versions, own)
         # For each row that asks cells: the answers ahead of it, its number, how much was said ahead of it, and that
         # no cell that it asks is outside.
         self.asking = []
@@ -63,7 +64,9 @@ def _sides(one, other, versions):
                for program, way in (one, other)]
     more = [(version, frame.length_of(array)) for version, array in zip(versions, [*written[0], *written[1]])]
     basis = frame.with_names(arrays=tuple(more))
-    return Side(basis, *one, versions), Side(basis, *other, versions[len(written[0]):])
+    others = versions[len(written[0]):]
+    own = fresh_names(basis, 1)[0]
+    return Side(basis, own, *one, versions), Side(basis, own, *other, others)
 
 
 def _none_outside(frame, asked):
@@ -96,8 +99,8 @@ def _equality(frame, kind, one, other):
     """The claim that two terms, or two arrays, are equal."""
     if kind != "array":
         return ("pos" if kind == "position" else "val", "==", one, other)
-    own = own_names_for(frame, ("k",), 1)
-    return ("all", own, ("and", ()), ("val", "==", (one, own[0], 0, 0), (other, own[0], 0, 0)))
+    own = fresh_names(frame, 1)[0]
+    return ("all", (own,), ("and", ()), ("val", "==", (one, own, 0, 0), (other, own, 0, 0)))
 
 
 def _faulty_beside(first, second, given, seen, key):

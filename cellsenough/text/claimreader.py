@@ -51,8 +51,10 @@ def _is_keyword(scanner, word, role):
     """Whether a word that is a name, too, is none here, by what stands behind it."""
     if word not in WORDS[role]:
         return False
+    if scanner.basis.kind_of(word) == "array":
+        return not scanner.is_at("[")
     if word != "all":
-        return scanner.next_sign() == "("
+        return scanner.is_at("(")
     return scanner.is_at(" ") and not (scanner.is_at(" <") or scanner.is_at(" ="))
 
 

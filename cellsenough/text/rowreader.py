@@ -41,7 +41,7 @@ def _begun(scanner, blocks):
     frame = scanner.basis
     names = [*frame.positions, *frame.amounts, *[array for array, _ in frame.arrays]]
     word = scanner.word((*names, *WORDS))
-    if word not in names or (word in WORDS and _is_keyword(scanner)):
+    if word not in names or (word in WORDS and _is_keyword(scanner, word)):
         scanner.literal(" ")
         condition = read_claim_of(scanner, "condition")
         scanner.literal(" {")
@@ -57,8 +57,10 @@ def _begun(scanner, blocks):
     return ("keep", word, scanner.amount(()))
 
 
-def _is_keyword(scanner):
+def _is_keyword(scanner, word):
     """Whether a word that is a name, too, is none here, by what stands behind it."""
+    if scanner.basis.kind_of(word) == "array":
+        return not scanner.is_at("[")
     return scanner.is_at(" ") and not scanner.is_at(" =")
 
 

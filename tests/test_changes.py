@@ -172,6 +172,14 @@ class Alike(unittest.TestCase):
         self.check(frame, rows, (*writes, *moves, *tests), (), False)
         self.assertIs(do_work_alike(frame, rows, (*moves, *writes[::-1], *tests), given), True)
 
+    def test_frames_that_leave_few_names(self):
+        ones = ["k" * many for many in range(1, 9)]
+        frame = Frame((("wa", "wb"), ("wc", "wd")), tuple(ones[:6]), tuple(ones[6:]))
+        place, value = ones[0], (ones[7], 0)
+        one = (("write", "wa", place, 0, value), ("write", "wc", ones[1], 0, value))
+        self.check(frame, one, one[::-1], (), True)
+        self.check(frame, one, (("write", "wa", place, 0, value), ("write", "wa", ones[1], 0, value)), (), False)
+
     def test_values_of_many_digits(self):
         rows = (("keep", "x", ("x", 10 ** 50 - 1)), ("keep", "x", ("x", 10 ** 50 - 1)))
         self.check(FRAME, rows, (("keep", "x", ("x", 10 ** 50 - 1)), ("keep", "x", ("x", 10 ** 50 - 2))), (), False)
@@ -227,7 +235,7 @@ class Limits(unittest.TestCase):
                  (("keep", "x", cell("i", 1000)),), (("keep", "x", ("x", long)),), (("keep", "x", cell("i", 0, -long)),),
                  (("write", "a", "i", -1000, X),), (("write", "a", "i", 0, cell("j", 1000)),), (("write", "a", "i", 0, ("", long)),),
                  (("if", lt(("i", 1000), J), (), ()),), (("if", ("val", "<", cell("i", -1000), X), (), ()),),
-                 (("if", ("val", "<", X, ("x", long)), (), ()),), (("if", ATOM, (), (("keep", "x", ("x", -long)),)),)]
+                 (("if", ("val", "<", X, ("x", long)), (), ()),), (("if", ("val", "<", ("x", long), X), (), ()),), (("if", ATOM, (), (("keep", "x", ("x", -long)),)),)]
         for rows in wrong:
             with self.subTest(rows):
                 self.refused(InvalidOperation, FRAME, rows, ())

@@ -46,7 +46,7 @@ class Effort(unittest.TestCase):
         self.assertLess(calls(Question, FRAME, (AT_MOST[1],), AT_MOST[0]), 100)
 
     def test_claims_beside_each_other(self):
-        self.assertLess(calls(strongest, FRAME, AT_MOST), 9000)
+        self.assertLess(calls(strongest, FRAME, AT_MOST), 6500)
         self.assertEqual(strongest(FRAME, AT_MOST), ((0,),))
         wanted = [(one, other) for one in range(6) for other in range(6) if one < other]
         self.assertEqual(implications(FRAME, AT_MOST), tuple(wanted))
@@ -54,7 +54,7 @@ class Effort(unittest.TestCase):
     def test_what_an_asker_is_told(self):
         falling = [("val", "<=", ("x", 0), ("", 39 - number)) for number in range(39)]
         for claims in (falling, falling[::-1]):
-            self.assertLess(calls(tell_all, claims), 9000)
+            self.assertLess(calls(tell_all, claims), 6000)
             self.assertEqual(tell_all(claims).known, tuple(claims))
 
     def test_askers_that_were_told_much_answer_as_they_should(self):

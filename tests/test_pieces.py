@@ -185,6 +185,8 @@ class Told(unittest.TestCase):
         for question in questions:
             same = Question(turn.frame, question.claims, question.goal)
             self.assertEqual([question.members, question.few, question.fresh], [same.members, same.few, same.fresh])
+        for question, same in zip(turn.goal_questions(), questions[1:]):
+            self.assertEqual([question, question.members, question.fresh], [same, same.members, same.fresh])
 
     def test_claims_and_goals(self):
         outline = Outline(FILL, before=(UPTO,), notes=((SAME, TO_END),), after=(LOW,))
@@ -244,6 +246,18 @@ class Told(unittest.TestCase):
             self.assertEqual([piece.ends["k"], piece.ends["wa"]], ["wi", "wa"])
         plain = only(*rows, frame=frame)
         self.assertEqual(plain.frame.arrays[2:], (("wb", "wc"), ("wf", "wc"), ("wg", "wc")))
+
+    def test_frames_that_leave_few_names(self):
+        ones = ["k" * many for many in range(1, 9)]
+        frame = Frame((("a", "n"),), tuple(ones[:6]), tuple(ones[6:]))
+        self.assertEqual(only(("move", "k", ("kk", 1)), frame=frame).ends["k"], ("kk", 1))
+        frame = Frame((("a", "n"),), tuple(ones[:6]), tuple(ones[7:]))
+        self.assertEqual(only(("write", "a", "k", 0, ("", 0)), frame=frame).facts[1][1], (ones[6],))
+        # Behind wz.
+        taken = tuple([("all", (f"w{letter}",), ("and", ()), ("or", ())) for letter in "abcdefghijklmnopqrstuvwxyz"])
+        self.assertEqual(only(("write", "a", "i", 0, X), before=(("and", taken[1:]),)).ends["a"], "wa")
+        self.assertEqual(only(("write", "a", "i", 0, X), before=(("and", taken[:-1]),)).ends["a"], "wz")
+        self.assertEqual(only(("write", "a", "i", 0, X), before=(("and", taken),)).ends["a"], "waa")
 
     def test_versions_have_the_lengths_of_their_arrays(self):
         piece = only(("write", "b", "i", 0, X), ("write", "a", "i", 0, X), ("write", "b", "i", 0, X), frame=PAIR)

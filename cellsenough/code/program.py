@@ -30,13 +30,6 @@ def check_outline(outline):
         raise InvalidProgram("this is no outline")
 
 
-def are_notes(program, value):
-    """Whether the value is a tuple of claims for each loop of the program."""
-    if not isinstance(value, tuple) or len(value) != len(program.loop_rows):
-        return False
-    return all([are_claims(program.frame, claims, MAX_NOTES) for claims in value])
-
-
 class Program:
     """Rows for a frame, which are numbered in the order of their beginnings."""
 
@@ -132,7 +125,7 @@ class Outline:
     def __init__(self, program, *, before=(), notes, after=()):
         check_program(program)
         check_claims(program.frame, before, MAX_NOTES)
-        if not are_notes(program, notes):
+        if not _are_notes(program, notes):
             raise InvalidClaim("these are not claims for each loop")
         check_claims(program.frame, after, MAX_NOTES)
         self._program = program
@@ -182,3 +175,10 @@ class Outline:
 
     def __str__(self):
         return f"outline of {len(self._program)} rows, {len(self)} claims"
+
+
+def _are_notes(program, value):
+    """Whether the value is a tuple of claims for each loop of the program."""
+    if not isinstance(value, tuple) or len(value) != len(program.loop_rows):
+        return False
+    return all([are_claims(program.frame, claims, MAX_NOTES) for claims in value])

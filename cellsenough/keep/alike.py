@@ -106,13 +106,13 @@ def _equality(frame, kind, one, other):
 def _faulty_beside(first, second, given, seen, key):
     """A situation from which the first side comes to its end, and the second one to a fault, or None."""
     beside = [*given, *first.told()]
-    safe = []
     for answers, number, said, claim in second.asking:
         # Other ways have the same beginnings.
         if (key, answers, number) not in seen:
             seen[key, answers, number] = True
-            found = _broken(first.course.basis, [*beside, *second.course.said[:said], *safe], claim)
+            found = _broken(first.course.basis, [*beside, *second.course.said[:said]], claim)
             if found is not None:
                 return found
-        safe.append(claim)
+        # A fault that comes first is found first; without it, there is less to be looked at behind it.
+        beside.append(claim)
     return None

@@ -1,7 +1,6 @@
 """Changes of programs: rows that work alike, rows in another order, and loops with a turn ahead of them."""
 
 from cellsenough.base.checks import check_index
-from cellsenough.base.frames import check_frame
 from cellsenough.code.program import Outline, Program, check_outline, is_rows
 from cellsenough.errors import InvalidOperation, InvalidProgram, TooMany
 from cellsenough.keep.alike import parting_of
@@ -34,7 +33,6 @@ def parting_rows(frame, one, other, given=()):
 
 def do_commute(frame, one, other, given=()):
     """Whether two rows work alike in both orders."""
-    check_frame(frame)
     for row in (one, other):
         if not is_rows(frame, (row,)) or row[0] not in GIVING:
             raise InvalidProgram("this is no move, keep or write")
@@ -57,7 +55,6 @@ def unrolled(outline, loop):
 
 def _parting(frame, one, other, given):
     """A situation with the given claims from which two tuples of rows do not work alike, or None."""
-    check_frame(frame)
     programs = [_without_loops(frame, one), _without_loops(frame, other)]
     check_claims(frame, given, MOST_GIVEN)
     for program in programs:

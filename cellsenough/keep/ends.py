@@ -23,7 +23,7 @@ def end_faults(outline, measures):
     asked = [_asked(outline, told, loop, measure) for loop, measure in enumerate(measures)]
     every = [question for lows, turns in asked for question in [*lows, *[one for turn in turns for one in turn[2:]]]]
     check_all_small([question for question in every if question is not None])
-    if len([question for question in every if question is None]) > 0:
+    if None in every:
         raise InvalidOperation("a term of a measure would have an invalid number")
     found = [(loop, word) for loop, (lows, turns) in enumerate(asked) for word in _faults(loop, lows, turns)]
     return tuple(sorted(found))

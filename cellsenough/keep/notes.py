@@ -1,10 +1,9 @@
 """Whether the notes of an outline are kept, with papers that show it."""
 
-from cellsenough.base.checks import check_index
 from cellsenough.base.integers import is_integer
 from cellsenough.code.pieces import pieces
 from cellsenough.code.program import check_outline
-from cellsenough.code.runs import MOST_STEPS, first_break
+from cellsenough.code.runs import first_break
 from cellsenough.decide.limits import check_all_small
 from cellsenough.decide.search import decided
 from cellsenough.errors import InvalidSituation
@@ -54,7 +53,6 @@ def reached_break(outline, situations, *, most=100):
     """The first index of a situation from which a run breaks a claim of the outline, and what it breaks, or None."""
     check_outline(outline)
     _check_situations(outline.frame, situations)
-    check_index(most, MOST_STEPS + 1)
     for index, situation in enumerate(situations):
         found = first_break(outline, situation, most=most)
         # A situation in which a claim of the beginning is false is none from which runs have to keep anything.

@@ -1,6 +1,6 @@
 """A shell, which is told commands as texts, and answers by texts."""
 
-from cellsenough.base.frames import check_frame, is_name
+from cellsenough.base.frames import is_name
 from cellsenough.desk.desk import Desk
 from cellsenough.errors import InvalidClaim, InvalidNumber, InvalidOperation, InvalidWord, NothingToUndo, ParseError
 from cellsenough.errors import Refused, TooMany, UnknownName
@@ -18,7 +18,6 @@ class Shell:
     """A desk that is told what to do by texts."""
 
     def __init__(self, frame):
-        check_frame(frame)
         self._desk = Desk(frame)
         # The answers that were no errors.
         self._answers = []

@@ -3,6 +3,7 @@
 from cellsenough.base.integers import is_integer
 from cellsenough.errors import InvalidOperation
 from cellsenough.logic.parts import all_parts, place_with, term_with, terms_in, with_terms
+from cellsenough.solve.questions import MAX_GIVEN
 
 LETTERS = "abcdefghijklmnopqrstuvwxyz"
 
@@ -83,6 +84,8 @@ class Course:
 
     def _ask(self, number, ahead, cell):
         """Takes in that a row asks a cell."""
+        if len(self.said) + len(ahead) > MAX_GIVEN:
+            raise InvalidOperation("there is too much to be given for a cell")
         told = tuple([self.claim_at(claim) for claim in ahead])
         self.asked.append((number, len(self.said), told, self.term_at((*cell, 0))[:3]))
 

@@ -10,7 +10,7 @@ from cellsenough.decide.search import decided
 from cellsenough.errors import InvalidOperation, InvalidSituation, TooMany
 from cellsenough.logic.claims import inside_claim, own_names_for
 from cellsenough.solve.members import needs_of
-from cellsenough.solve.questions import MAX_GIVEN, made_question
+from cellsenough.solve.questions import made_question
 from cellsenough.world.situations import Situation, made_situation
 
 MAX_PIECES = 64
@@ -56,9 +56,6 @@ class Piece:
         self._asked = course.asked
         self._wanted = [course.claim_at(claim) for claim in self.goals]
         self._ends = course.ends_in(self._outline.frame)
-        most = max([0, *[known + len(ahead) for _, known, ahead, _ in course.asked]])
-        if most > MAX_GIVEN or (self._wanted and len(self._facts) > MAX_GIVEN):
-            raise InvalidOperation("a question of a piece would have too many given claims")
 
     @property
     def outline(self):

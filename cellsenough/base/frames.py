@@ -3,6 +3,7 @@
 from cellsenough.base.integers import is_integer
 from cellsenough.errors import InvalidFrame, InvalidNumber, InvalidOperation, InvalidTerm, UnknownName
 
+LETTERS = "abcdefghijklmnopqrstuvwxyz"
 LONGEST_NAME = 8
 MAX_ARRAYS = 12
 MAX_POSITIONS = 6

@@ -1,5 +1,7 @@
 """Which values count as integers."""
 
+DIGITS = "0123456789"
+MOST_DIGITS = 60
 LIMIT = 10 ** 60
 
 

@@ -1,11 +1,10 @@
 """What the rows on a way come to, in terms of its beginning."""
 
+from cellsenough.base.frames import LETTERS
 from cellsenough.base.integers import is_integer
 from cellsenough.errors import InvalidOperation
 from cellsenough.logic.parts import all_parts, place_with, term_with, terms_in, with_terms
 from cellsenough.solve.questions import MAX_GIVEN
-
-LETTERS = "abcdefghijklmnopqrstuvwxyz"
 
 
 def version_names(frame, claims, many):

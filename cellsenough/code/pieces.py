@@ -6,7 +6,7 @@ from cellsenough.code.program import check_outline
 from cellsenough.code.steps import effect_of, with_effect
 from cellsenough.code.walks import walk_sizes, walks
 from cellsenough.decide.limits import check_all_small
-from cellsenough.decide.search import decided
+from cellsenough.decide.search import all_follow
 from cellsenough.errors import InvalidOperation, InvalidSituation, TooMany
 from cellsenough.logic.claims import inside_claim, own_names_for
 from cellsenough.solve.members import needs_of
@@ -129,10 +129,7 @@ class Piece:
         """Whether all its questions follow."""
         told = [question for _, question in self.questions()]
         check_all_small(told)
-        for question in told:
-            if decided(question)[0] == "broken":
-                return False
-        return True
+        return all_follow(told)
 
     def carried(self, situation):
         """("end", situation) or ("fault", row) of a run that takes these answers, or None if it takes others."""

@@ -4,7 +4,7 @@ from cellsenough.base.frames import check_frame
 from cellsenough.base.integers import are_ascending
 from cellsenough.decide.limits import check_all_small, check_small
 from cellsenough.decide.pairs import truths_of
-from cellsenough.decide.search import decided
+from cellsenough.decide.search import decided, does_follow
 from cellsenough.errors import InvalidClaim, InvalidOperation
 from cellsenough.logic.shapes import check_claim, check_claims
 from cellsenough.solve.questions import Question, check_question
@@ -56,7 +56,7 @@ def needless(frame, claims, given=()):
     indices = range(len(claims))
     questions = [Question(frame, given + claims[:at] + claims[at + 1:], claims[at]) for at in indices]
     check_all_small(questions)
-    return tuple([at for at in indices if _follows(questions[at])])
+    return tuple([at for at in indices if does_follow(questions[at])])
 
 
 def thinned(frame, claims, given=()):
@@ -67,7 +67,7 @@ def thinned(frame, claims, given=()):
         others = [other for other in kept if other != at]
         question = Question(frame, given + tuple([claims[other] for other in others]), claims[at])
         check_small(question)
-        if _follows(question):
+        if does_follow(question):
             kept = others
     return tuple(kept)
 
@@ -108,11 +108,6 @@ def _check_compared(frame, claims, given):
     if len(claims) == 0:
         raise InvalidClaim("there is no claim")
     check_claims(frame, given, MAX_BESIDE)
-
-
-def _follows(question):
-    """Whether the question follows."""
-    return decided(question)[0] == "follows"
 
 
 def _parting(frame, one, other, given):
@@ -158,12 +153,12 @@ def _without_ones_in(classes, pairs):
 def _core(question):
     """The indices of the given claims that remain."""
     check_small(question)
-    if not _follows(question):
+    if not does_follow(question):
         raise InvalidOperation("the question does not follow")
     kept = list(range(len(question)))
     for at in range(len(question)):
         others = [other for other in kept if other != at]
-        if _follows(_with_only(question, others)):
+        if does_follow(_with_only(question, others)):
             kept = others
     return tuple(kept)
 

@@ -3,7 +3,7 @@
 from cellsenough.base.checks import check_undo
 from cellsenough.base.frames import check_frame
 from cellsenough.decide.limits import check_small
-from cellsenough.decide.search import decided
+from cellsenough.decide.search import decided, does_follow
 from cellsenough.errors import InvalidOperation, Refused
 from cellsenough.logic.claims import is_claim
 from cellsenough.logic.shapes import check_claim
@@ -78,13 +78,13 @@ class Asker:
         is_shown = self._is_shown(claim)
         question = self._question.wanting(claim)
         check_small(question)
-        if (self._shown is None or is_shown) and decided(question)[0] == "follows":
+        if (self._shown is None or is_shown) and does_follow(question):
             return "yes"
         # The not of the claim could be too deep for a claim; it follows exactly if nothing has the claim, too, and
         # both questions have the same members and the same few.
         question = self._question.with_given(claim)
         check_small(question)
-        return "no" if not is_shown and decided(question)[0] == "follows" else "open"
+        return "no" if not is_shown and does_follow(question) else "open"
 
     def why(self, claim):
         """The paper of the question whether the claim follows from what is known."""

@@ -26,6 +26,19 @@ def decided(question):
     return ("follows", tree_of(search.closed, len(question.facts)))
 
 
+def does_follow(question):
+    """Whether the question follows."""
+    return decided(question)[0] == "follows"
+
+
+def all_follow(questions):
+    """Whether all questions follow. No more is searched than is needed for this."""
+    for question in questions:
+        if not does_follow(question):
+            return False
+    return True
+
+
 class Search:
     """A search, which ends with a situation or a proof."""
 

@@ -3,7 +3,7 @@
 from cellsenough.base.checks import check_index, check_undo
 from cellsenough.base.frames import check_frame, is_name
 from cellsenough.decide.limits import check_small
-from cellsenough.decide.search import decided
+from cellsenough.decide.search import decided, does_follow
 from cellsenough.desk.layouts import Layout, changed_layout, news_between
 from cellsenough.errors import InvalidOperation, TooMany, UnknownName
 from cellsenough.logic.shapes import check_claim
@@ -110,7 +110,7 @@ class Desk:
     def follows(self, one, other):
         """Whether the second claim follows from the facts and the first one."""
         question = self._question_of(one, other)
-        return self._now.truths[one, other] if one != other else decided(question)[0] == "follows"
+        return self._now.truths[one, other] if one != other else does_follow(question)
 
     def paper(self, one, other):
         """A tree of the question whether the second claim follows from the facts and the first, or what breaks it."""

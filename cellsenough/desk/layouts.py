@@ -2,7 +2,7 @@
 
 from cellsenough.decide.limits import check_all_small
 from cellsenough.decide.pairs import truths_of
-from cellsenough.decide.search import decided
+from cellsenough.decide.search import does_follow
 from cellsenough.errors import Refused
 from cellsenough.solve.questions import Question
 
@@ -58,5 +58,5 @@ def _known(old, facts, claims, pairs):
 def _does_hold(pin, truths, beside):
     """Whether a pin holds."""
     if pin[0] == "possible":
-        return decided(beside[pin[1]])[0] == "broken"
+        return not does_follow(beside[pin[1]])
     return truths[pin[1:]] == (pin[0] == "follows")

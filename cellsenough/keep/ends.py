@@ -4,7 +4,7 @@ from cellsenough.base.integers import is_integer
 from cellsenough.code.pieces import pieces
 from cellsenough.code.program import check_outline
 from cellsenough.decide.limits import check_all_small
-from cellsenough.decide.search import decided
+from cellsenough.decide.search import all_follow
 from cellsenough.errors import InvalidOperation, InvalidTerm
 from cellsenough.logic.parts import place_with, terms_in
 from cellsenough.solve.questions import Question
@@ -88,24 +88,16 @@ def _question(piece, wanted):
 def _faults(loop, lows, turns):
     """The words for what is wrong with the measure of a loop."""
     words = []
-    if not _do_follow(lows):
+    if not all_follow(lows):
         words.append("low")
-    staying = [_do_follow([low, high]) for _, _, low, high, _ in turns]
+    staying = [all_follow([low, high]) for _, _, low, high, _ in turns]
     if False in staying:
         words.append("grows")
     # The ways on which the measure does not fall, as pairs of a beginning and an end.
-    level = [turn[:2] for turn, stays in zip(turns, staying) if not stays or not _do_follow([turn[4]])]
+    level = [turn[:2] for turn, stays in zip(turns, staying) if not stays or not all_follow([turn[4]])]
     if _is_on_a_ring(loop, level):
         words.append("turns")
     return words
-
-
-def _do_follow(questions):
-    """Whether all questions follow."""
-    for question in questions:
-        if decided(question)[0] == "broken":
-            return False
-    return True
 
 
 def _is_on_a_ring(loop, pairs):

@@ -7,7 +7,7 @@ from cellsenough.base.integers import are_ascending, is_integer
 from cellsenough.code.pieces import pieces
 from cellsenough.code.program import MAX_NOTES, Outline
 from cellsenough.decide.limits import check_all_small
-from cellsenough.decide.search import decided
+from cellsenough.decide.search import all_follow, decided
 from cellsenough.logic.shapes import check_claims
 from cellsenough.solve.trees import are_trees_of
 from cellsenough.world.situations import made_situation
@@ -35,10 +35,7 @@ def is_carried(program, candidates, value, *, before=()):
         return False
     questions = [question for _, piece in _ending_at_loops(whole, value) for question in piece.goal_questions()]
     check_all_small(questions)
-    for question in questions:
-        if decided(question)[0] == "broken":
-            return False
-    return True
+    return all_follow(questions)
 
 
 def choice_paper(program, candidates, *, before=()):

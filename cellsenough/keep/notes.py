@@ -5,7 +5,7 @@ from cellsenough.code.pieces import pieces
 from cellsenough.code.program import check_outline
 from cellsenough.code.runs import first_break
 from cellsenough.decide.limits import check_all_small
-from cellsenough.decide.search import decided
+from cellsenough.decide.search import decided, does_follow
 from cellsenough.errors import InvalidSituation
 from cellsenough.solve.trees import are_trees_of
 from cellsenough.world.situations import Situation
@@ -22,7 +22,7 @@ def broken_questions(outline):
     """The ascending tuple of the pairs (piece, question) of all questions that do not follow."""
     told = _small_questions(outline)
     pairs = [(piece, index) for piece, questions in enumerate(told) for index in range(len(questions))]
-    return tuple([(piece, index) for piece, index in pairs if decided(told[piece][index])[0] == "broken"])
+    return tuple([(piece, index) for piece, index in pairs if not does_follow(told[piece][index])])
 
 
 def kept_paper(outline):

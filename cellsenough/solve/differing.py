@@ -4,9 +4,7 @@ A difference (one, other, number) says that `one` less `other` is at most the nu
 """
 
 from cellsenough.base.frames import is_name
-from cellsenough.base.integers import is_integer
-
-DIGITS = "0123456789"
+from cellsenough.base.integers import DIGITS, is_integer
 
 
 def is_point(value):

@@ -3,12 +3,10 @@
 What is read is told by what can stand at a place, so the first sign that fits nothing is the one that is wrong.
 """
 
-from cellsenough.base.frames import LONGEST_NAME
+from cellsenough.base.frames import LETTERS, LONGEST_NAME
+from cellsenough.base.integers import DIGITS, MOST_DIGITS
 from cellsenough.errors import ParseError
 
-LETTERS = "abcdefghijklmnopqrstuvwxyz"
-DIGITS = "0123456789"
-MOST_DIGITS = 60
 # A name of so many letters can be gone on with in more ways than a frame has names.
 SHORT = LONGEST_NAME - 2
 

@@ -1,10 +1,10 @@
 """A shell, which is told commands as texts, and answers by texts."""
 
 from cellsenough.base.frames import is_name
+from cellsenough.base.integers import MOST_DIGITS
 from cellsenough.desk.desk import Desk
 from cellsenough.errors import InvalidClaim, InvalidNumber, InvalidOperation, InvalidWord, NothingToUndo, ParseError
 from cellsenough.errors import Refused, TooMany, UnknownName
-from cellsenough.text.scanner import MOST_DIGITS
 from cellsenough.text.texts import read_claim, write_claim
 from cellsenough.world.situations import Situation
 

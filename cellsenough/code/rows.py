@@ -16,8 +16,8 @@ def are_rows(frame, value, most_rows, most_loops, most_inside):
             return False
         if not all([_is_row(frame, row) for row in found]):
             return False
-        many += len(found)
-        loops += len([row for row in found if row[0] == "while"])
+        many = many + len(found)
+        loops = loops + len([row for row in found if row[0] == "while"])
         level = [rows for row in found for rows in inner_rows(row)]
         inside += 1
     return many <= most_rows and loops <= most_loops
